@@ -1,0 +1,1 @@
+"""Shadowlinks: parts linked by the names that they show."""

@@ -1,0 +1,120 @@
+"""Rules of LANGUAGE.md that can be read off the files of the package."""
+
+import ast
+import builtins
+import pathlib
+import re
+import unittest
+
+PACKAGE = pathlib.Path(__file__).resolve().parent.parent / "shadowlinks"
+LIBRARY = {"heapq", "math", "itertools", "collections"}
+BUILTINS = set(
+    "len range enumerate zip min max sum abs sorted reversed int str bool bytes list tuple dict set frozenset"
+    " isinstance ord repr any all divmod pow getattr hasattr setattr Exception ValueError TypeError KeyError"
+    " IndexError LookupError ZeroDivisionError ArithmeticError OverflowError RuntimeError NotImplementedError"
+    " AttributeError StopIteration NotImplemented iter next map super property staticmethod classmethod".split()
+)
+DECORATORS = {"property", "staticmethod", "classmethod"}
+BARRED_NAMES = {"register", "mro", "elements", "open", "input", "law", "version_info", "with_traceback", "add_note"}
+BARRED_WORDS = (
+    "typing", "typing_extensions", "enum", "Enum", "IntEnum", "StrEnum", "Flag", "IntFlag", "Generic", "Protocol",
+    "ABC", "ABCMeta", "namedtuple", "NamedTuple", "TypedDict", "TYPE_CHECKING", "abstractmethod", "dataclass",
+    "overload", "contextmanager", "_wall", "_WallAttr",
+)
+BARRED_NODES = (
+    ast.Global, ast.AsyncFunctionDef, ast.AsyncFor, ast.AsyncWith, ast.Await, ast.Div, ast.MatMult, ast.TryStar,
+)
+
+
+def sources():
+    for path in sorted(PACKAGE.glob("*.py")):
+        text = path.read_text()
+        yield path.name, text, ast.parse(text)
+
+
+def bound_names(tree):
+    for node in ast.walk(tree):
+        if isinstance(node, (ast.FunctionDef, ast.ClassDef)):
+            yield node, node.name
+        elif isinstance(node, ast.arg):
+            yield node, node.arg
+        elif isinstance(node, ast.Name) and isinstance(node.ctx, ast.Store):
+            yield node, node.id
+
+
+class LanguageTest(unittest.TestCase):
+    def test_the_folder_holds_python_files_only(self):
+        names = {path.name for path in PACKAGE.iterdir()} - {"__pycache__"}
+        self.assertLessEqual({"__init__.py", "names.py"}, names)
+        for name in names:
+            self.assertRegex(name, r"^[a-z_][a-z0-9_]*\.py$")
+
+    def test_characters_and_sizes(self):
+        for file, text, tree in sources():
+            lines = text.split("\n")
+            self.assertLessEqual(len(lines), 400, file)
+            self.assertLessEqual(max(map(len, lines)), 120, file)
+            self.assertEqual(set(text) - set(map(chr, range(32, 127))) - {"\n"}, set(), file)
+            for node in ast.walk(tree):
+                if isinstance(node, ast.FunctionDef):
+                    self.assertLessEqual(node.end_lineno - node.lineno + 1, 40, f"{file} {node.name}")
+
+    def test_imports(self):
+        edges = {}
+        for file, _, tree in sources():
+            edges[file] = []
+            for node in ast.walk(tree):
+                self.assertNotIsInstance(node, ast.Import, file)
+                if isinstance(node, ast.ImportFrom):
+                    self.assertIn(node, tree.body, file)
+                    self.assertEqual(node.level, 0, file)
+                    self.assertTrue(all(alias.asname is None and alias.name != "*" for alias in node.names), file)
+                    if node.module not in LIBRARY:
+                        self.assertRegex(node.module, r"^shadowlinks\.[a-z0-9]+$")
+                        edges[file].append(node.module.removeprefix("shadowlinks.") + ".py")
+        done = set()
+        while len(done) < len(edges):
+            ready = {file for file in edges if file not in done and done.issuperset(edges[file])}
+            self.assertTrue(ready, f"imports in a circle: {set(edges) - done}")
+            done |= ready
+
+    def test_statements(self):
+        for file, _, tree in sources():
+            for node in ast.walk(tree):
+                self.assertNotIsInstance(node, BARRED_NODES, f"{file} {getattr(node, 'lineno', 0)}")
+                if isinstance(node, ast.FunctionDef):
+                    for mark in node.decorator_list:
+                        self.assertIsInstance(mark, ast.Name, file)
+                        self.assertIn(mark.id, DECORATORS, file)
+                if isinstance(node, ast.Constant):
+                    self.assertNotIsInstance(node.value, (float, complex), file)
+
+    def test_builtins(self):
+        for file, _, tree in sources():
+            for node in ast.walk(tree):
+                if isinstance(node, ast.Name) and hasattr(builtins, node.id):
+                    self.assertIn(node.id, BUILTINS, f"{file} {node.lineno}")
+
+    def test_no_builtin_has_another_meaning(self):
+        for file, _, tree in sources():
+            methods = [
+                item for node in tree.body if isinstance(node, ast.ClassDef) for item in node.body
+            ]
+            for node, name in bound_names(tree):
+                if node not in methods:
+                    self.assertFalse(hasattr(builtins, name), f"{file} {name}")
+                self.assertNotIn(name, BARRED_NAMES, file)
+
+    def test_words_and_strings(self):
+        for file, text, tree in sources():
+            for word in BARRED_WORDS:
+                self.assertIsNone(re.search(rf"\b{word}\b", text), f"{file} {word}")
+            for node in ast.walk(tree):
+                if isinstance(node, ast.Constant) and isinstance(node.value, str):
+                    self.assertNotIn("%", node.value, file)
+                if isinstance(node, ast.Name):
+                    self.assertNotEqual(node.id, "type", file)
+
+
+if __name__ == "__main__":
+    unittest.main()
