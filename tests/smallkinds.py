@@ -63,6 +63,8 @@ class Tables(Kind):
         raise NoSolution("no value fits")
 
     def ground(self, theory):
+        if theory[0] != ():
+            raise AssertionError("the theory has names")
         return {} if self.solutions(*theory) else None
 
     def normal(self, theory):
@@ -121,5 +123,7 @@ class Sequences(Tables):
         raise NoSolution("no value fits")
 
     def ground(self, theory):
+        if theory[0] != ():
+            raise AssertionError("the theory has names")
         solutions = self.solutions(*theory)
         return solutions[0] if solutions else None

@@ -14,6 +14,24 @@ FUNCTIONS = {
     ],
     "digits": ["is_number(text)", "parse_number(text, *, line=1)", "number_lines(lines, *, first=1)"],
     "namelists": ["parse_names(words, *, line=1)"],
+    "bittexts": ["format_clause(constraint)", "parse_clause(text, *, line=1)"],
+    "steptexts": ["format_step(constraint)", "parse_step(text, *, line=1)"],
+    "sumtexts": [
+        "format_linear(constraint)", "parse_linear(text, *, line=1)", "format_modular(constraint)",
+        "parse_modular(text, *, line=1)",
+    ],
+    "tabletexts": ["format_table(constraint)", "parse_table(text, *, line=1)"],
+    "machinetexts": ["format_machine(constraint)", "parse_machine(text, *, line=1)"],
+    "notation": ["format_constraint(word, constraint)", "parse_constraint(word, text, *, line=1)"],
+    "valuetexts": [
+        "format_value(word, value)", "parse_value(word, text, *, line=1)", "format_assignment(word, assignment)",
+        "parse_assignment(word, text, *, line=1)",
+    ],
+    "parttexts": [
+        "format_part(part)", "parse_part(kind, lines, /, *, first=1)", "each_part(kind, lines, /, *, first=1)",
+        "parse_parts(kind, lines, /, *, first=1)",
+    ],
+    "clauses": ["contains(first, second)", "resolvent(first, second, name)", "least_clauses(clauses)"],
 }
 CLASSES = {
     "errors": {
@@ -44,6 +62,9 @@ class InterfaceTest(unittest.TestCase):
                 function = getattr(load(module), wanted.partition("(")[0])
                 self.assertEqual(function.__name__ + str(inspect.signature(function)), wanted)
                 self.assertEqual(function.__module__, f"shadowlinks.{module}")
+
+    def test_generators(self):
+        self.assertTrue(inspect.isgeneratorfunction(load("parttexts").each_part))
 
     def test_classes_define_their_methods_themselves(self):
         for module, classes in CLASSES.items():

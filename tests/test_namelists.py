@@ -3,7 +3,7 @@
 import unittest
 
 from shadowlinks.errors import InvalidText
-from shadowlinks.namelists import parse_names
+from shadowlinks.namelists import parse_columns, parse_names
 
 BAD = (
     [""], ["a", ""], ["", "a"], ["b", "a"], ["a", "a"], ["a", "b", "a"], ["A"], ["1"], ["a", "b."], ["a", ".b"],
@@ -33,6 +33,17 @@ class ParseNamesTest(unittest.TestCase):
         words = ["a", "b"]
         self.assertIsInstance(parse_names(words), tuple)
         self.assertEqual(words, ["a", "b"])
+
+    def test_names_before_a_colon(self):
+        self.assertEqual(parse_columns("a b : 0 : 1"), (("a", "b"), ("0", ":", "1")))
+        self.assertEqual(parse_columns(":"), ((), ()))
+        for text in ("", "a b", "b a : 0", "a: 0", " : 0"):
+            with self.assertRaises(InvalidText) as caught:
+                parse_columns(text, line=6)
+            self.assertEqual(caught.exception.line, 6)
+        with self.assertRaises(InvalidText) as caught:
+            parse_columns("b a : 0")
+        self.assertEqual(caught.exception.line, 1)
 
 
 if __name__ == "__main__":
