@@ -30,3 +30,8 @@ def are_full_names(names):
 def merge_names(*lists):
     """Return the names of all lists in ascending order."""
     return tuple(sorted(set([name for names in lists for name in names])))
+
+
+def replace_names(names, table):
+    """Return a list of the names, in which each one that is a key of the dict is replaced by its value."""
+    return [table.get(name, name) for name in names]

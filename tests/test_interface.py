@@ -32,7 +32,22 @@ FUNCTIONS = {
         "parse_parts(kind, lines, /, *, first=1)",
     ],
     "clauses": ["contains(first, second)", "resolvent(first, second, name)", "least_clauses(clauses)"],
+    "cuts": ["derive_lines(clauses, certificate)"],
+    "ratios": [
+        "ratio(top, bottom=1)", "total(*parts)", "times(first, second)", "quotient(first, second)",
+        "is_below(first, second)", "ratio_at(terms, assignment)",
+    ],
+    "sums": ["is_terms(terms)"],
+    "bounds": ["greatest(theory, terms)", "least(theory, terms)", "span(theory, *, terms)"],
 }
+KIND_METHODS = [
+    "names_in(self, constraint)", "is_valid(self, names, constraint)", "holds(self, constraint, assignment)",
+    "contradiction(self)", "rename(self, theory, table)", "eliminate(self, theory, name)",
+    "lift(self, theory, name, assignment)", "ground(self, theory)", "normal(self, theory)",
+    "certificate(self, theory, constraint)", "accepts(self, theory, constraint, certificate)",
+    "counterexample(self, theory, constraint)", "pin(self, names, assignment)",
+]
+KINDS = {"bits": "Bits", "steps": "Steps", "lines": "Lines"}
 CLASSES = {
     "errors": {
         name: [] for name in (
@@ -48,7 +63,23 @@ CLASSES = {
             "with_constraints(self, constraints)", "called(self, name)",
         ],
     },
+    "differences": {
+        "Differences": [
+            "__init__(self, theory)", "__len__(self)", "__iter__(self)", "__getitem__(self, at)",
+            "__contains__(self, x)", "__add__(self, other)",
+        ],
+    },
+    "sums": {
+        "Sum": [
+            "__init__(self, terms=())", "__len__(self)", "__iter__(self)", "__contains__(self, x)",
+            "__getitem__(self, at)", "__add__(self, other)", "__sub__(self, other)", "__neg__(self)",
+            "__mul__(self, other)", "__rmul__(self, other)", "at(self, assignment)", "renamed(self, table)",
+        ],
+    },
+    **{module: {name: KIND_METHODS} for module, name in KINDS.items()},
 }
+PROPERTIES = {"parts": {"Part": ["names", "theory"]}, "differences": {"Differences": ["satisfiable", "lowest", "highest"]}}
+GENERATORS = {"parttexts": ["each_part"]}
 
 
 def load(module):
@@ -64,7 +95,9 @@ class InterfaceTest(unittest.TestCase):
                 self.assertEqual(function.__module__, f"shadowlinks.{module}")
 
     def test_generators(self):
-        self.assertTrue(inspect.isgeneratorfunction(load("parttexts").each_part))
+        for module, functions in GENERATORS.items():
+            for name in functions:
+                self.assertTrue(inspect.isgeneratorfunction(getattr(load(module), name)))
 
     def test_classes_define_their_methods_themselves(self):
         for module, classes in CLASSES.items():
@@ -76,11 +109,21 @@ class InterfaceTest(unittest.TestCase):
                     self.assertEqual(method.__name__ + str(inspect.signature(method)), wanted)
 
     def test_class_methods_and_properties(self):
-        part = vars(load("parts").Part)
-        self.assertIsInstance(part["bare"], classmethod)
-        self.assertEqual(str(inspect.signature(part["bare"].__func__)), "(cls, word, name)")
-        for name in ("names", "theory"):
-            self.assertIsInstance(part[name], property)
+        bare = vars(load("parts").Part)["bare"]
+        self.assertIsInstance(bare, classmethod)
+        self.assertEqual(str(inspect.signature(bare.__func__)), "(cls, word, name)")
+        for module, classes in PROPERTIES.items():
+            for name, properties in classes.items():
+                for wanted in properties:
+                    self.assertIsInstance(vars(getattr(load(module), name))[wanted], property)
+
+    def test_kinds(self):
+        base = load("kinds").Kind
+        for module, name in KINDS.items():
+            made = getattr(load(module), name)
+            self.assertTrue(issubclass(made, base))
+            self.assertEqual(vars(made)["WORD"], module)
+            self.assertIsInstance(made(), base)
 
 
 if __name__ == "__main__":

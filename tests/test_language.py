@@ -24,6 +24,14 @@ BARRED_WORDS = (
 BARRED_NODES = (
     ast.Global, ast.AsyncFunctionDef, ast.AsyncFor, ast.AsyncWith, ast.Await, ast.Div, ast.MatMult, ast.TryStar,
 )
+METHODS = set(
+    "append clear copy count endswith extend find get index insert isalnum isalpha isdigit islower isspace isupper"
+    " items join keys ljust lower lstrip partition pop remove replace reverse rfind rjust rpartition rsplit rstrip"
+    " setdefault split splitlines startswith strip update upper values zfill bit_length removeprefix"
+    " removesuffix".split()
+)
+GIVERS = {"zip", "enumerate", "reversed", "range"}
+TAKERS = {"list", "tuple", "dict", "sorted", "sum", "any", "all", "enumerate", "zip", "min", "max"}
 
 
 def sources():
@@ -40,6 +48,22 @@ def bound_names(tree):
             yield node, node.arg
         elif isinstance(node, ast.Name) and isinstance(node.ctx, ast.Store):
             yield node, node.id
+
+
+def parents_in(tree):
+    return {child: node for node in ast.walk(tree) for child in ast.iter_child_nodes(node)}
+
+
+def is_call(node, names):
+    return isinstance(node, ast.Call) and isinstance(node.func, ast.Name) and node.func.id in names
+
+
+def functions_in(tree):
+    return [node for node in ast.walk(tree) if isinstance(node, ast.FunctionDef)]
+
+
+def is_generator(function):
+    return any(isinstance(node, (ast.Yield, ast.YieldFrom)) for node in ast.walk(function))
 
 
 class LanguageTest(unittest.TestCase):
@@ -104,6 +128,69 @@ class LanguageTest(unittest.TestCase):
                 if node not in methods:
                     self.assertFalse(hasattr(builtins, name), f"{file} {name}")
                 self.assertNotIn(name, BARRED_NAMES, file)
+
+    def test_no_variable_has_the_name_of_an_import_or_a_class(self):
+        for file, _, tree in sources():
+            taken = {alias.name for node in tree.body if isinstance(node, ast.ImportFrom) for alias in node.names}
+            taken |= {node.name for node in tree.body if isinstance(node, ast.ClassDef)}
+            top = [node for node in tree.body if isinstance(node, (ast.ClassDef, ast.FunctionDef))]
+            for node, name in bound_names(tree):
+                if node not in top:
+                    self.assertNotIn(name, taken, f"{file} {node.lineno}")
+
+    def test_imports_are_used(self):
+        for file, _, tree in sources():
+            used = {node.id for node in ast.walk(tree) if isinstance(node, ast.Name)}
+            for node in tree.body:
+                if isinstance(node, ast.ImportFrom):
+                    for alias in node.names:
+                        self.assertIn(alias.name, used, file)
+                    # A part can be iterated over and has a length.
+                    self.assertFalse({alias.name for alias in node.names} & {"product", "combinations", "permutations"})
+
+    def test_methods_of_builtin_values(self):
+        own = {node.name for _, _, tree in sources() for node in functions_in(tree)}
+        for file, _, tree in sources():
+            for node in ast.walk(tree):
+                if isinstance(node, ast.Call) and isinstance(node.func, ast.Attribute):
+                    self.assertIn(node.func.attr, METHODS | own, f"{file} {node.lineno}")
+
+    def test_no_name_is_a_method_and_an_attribute(self):
+        methods, attributes = set(), set()
+        for _, _, tree in sources():
+            for node in ast.walk(tree):
+                if isinstance(node, ast.ClassDef):
+                    methods |= {item.name for item in node.body if isinstance(item, ast.FunctionDef)}
+                if isinstance(node, ast.Attribute) and isinstance(node.ctx, ast.Store):
+                    attributes.add(node.attr)
+        self.assertEqual(methods & attributes, set())
+
+    def test_iterated_at_once(self):
+        for file, _, tree in sources():
+            parents = parents_in(tree)
+            for node in ast.walk(tree):
+                parent = parents.get(node)
+                if is_call(node, GIVERS):
+                    at_once = isinstance(parent, (ast.For, ast.comprehension)) or is_call(parent, TAKERS)
+                    self.assertTrue(at_once, f"{file} {node.lineno}")
+                if isinstance(node, (ast.Set, ast.SetComp)) or is_call(node, {"set"}):
+                    self.assertTrue(is_call(parent, {"sorted", "len"}), f"{file} {node.lineno}")
+                if isinstance(node, ast.Call):
+                    for argument in node.args:
+                        if isinstance(argument, ast.Starred):
+                            self.assertIsInstance(argument.value, (ast.Name, ast.Attribute), f"{file} {node.lineno}")
+
+    def test_generators(self):
+        every = [node for _, _, tree in sources() for node in functions_in(tree)]
+        names = {node.name for node in every if is_generator(node)}
+        for name in names:
+            self.assertEqual([node.name for node in every].count(name), 1, name)
+        for file, _, tree in sources():
+            parents = parents_in(tree)
+            for node in ast.walk(tree):
+                if is_call(node, names):
+                    at_once = isinstance(parents[node], (ast.For, ast.YieldFrom)) or is_call(parents[node], TAKERS)
+                    self.assertTrue(at_once, f"{file} {node.lineno}")
 
     def test_words_and_strings(self):
         for file, text, tree in sources():
