@@ -56,9 +56,9 @@ class Lines(Kind):
                 others = [term for term in terms if term[0] != name]
                 room = total((bound, 1), ratio_at([(other, -its) for other, its in others], assignment))
                 value = quotient(room, (number, 1))
-                if (number < 0 or sign == "=") and (low is None or is_below(low, value)):
-                    low = value
-                if (number > 0 or sign == "=") and (high is None or is_below(value, high)):
+                if number < 0 or sign == "=":
+                    low = value if low is None or is_below(low, value) else low
+                elif high is None or is_below(value, high):
                     high = value
         if low is None:
             low = (0, 1) if high is None else high

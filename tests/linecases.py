@@ -2,6 +2,7 @@
 
 import random
 from fractions import Fraction
+from itertools import combinations
 
 
 def le(bound, **numbers):
@@ -98,3 +99,43 @@ def does_follow(theory, constraint):
         if has_solution(theory[0], [*rows_of(theory), (negated(sum_of), -bound, True)]):
             return False
     return True
+
+
+def meeting(names, rows):
+    """The only common solution of as many equations as there are names, or None."""
+    rows = [[Fraction(dict(row[0]).get(name, 0)) for name in names] + [Fraction(row[2])] for row in rows]
+    for at in range(len(names)):
+        lead = next((k for k in range(at, len(rows)) if rows[k][at] != 0), None)
+        if lead is None:
+            return None
+        rows[at], rows[lead] = rows[lead], rows[at]
+        rows[at] = [number / rows[at][at] for number in rows[at]]
+        for k, row in enumerate(rows):
+            if k != at:
+                rows[k] = [number - row[at] * own for number, own in zip(row, rows[at])]
+    return tuple(row[-1] for row in rows)
+
+
+def is_right(names, constraint, values):
+    value = sum(Fraction(number) * values[names.index(name)] for name, number in constraint[0])
+    return value == constraint[2] or (constraint[1] == "<=" and value < constraint[2])
+
+
+def meetings(theory):
+    """The meetings of constraints that are solutions, in ascending order."""
+    names, constraints = theory
+    points = {meeting(names, rows) for rows in combinations(constraints, len(names))} - {None}
+    return sorted(point for point in points if all(is_right(names, one, point) for one in constraints))
+
+
+def cut_boxes(seed, count):
+    """Boxes with one to three more inequalities."""
+    maker = random.Random(seed)
+    for at in range(count):
+        names = ("x", "y", "z")[:2 + at % 2]
+        found = [(((name, sign),), "<=", maker.randrange(4)) for name in names for sign in (-1, 1)]
+        for _ in range(1 + at % 3):
+            one = tuple((name, maker.choice((-3, -2, -1, 1, 2, 3))) for name in names)
+            found.append((one, "<=", maker.randrange(-1, 5)))
+        maker.shuffle(found)
+        yield names, tuple(found)

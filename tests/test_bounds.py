@@ -2,10 +2,13 @@
 
 import copy
 import unittest
+from fractions import Fraction
 
 from shadowlinks.bounds import greatest, least, span
 from shadowlinks.errors import NoSolution
-from tests.linecases import EXAMPLE, THEORIES, does_follow, eq, is_satisfiable, le, made_theories, negated, terms
+from tests.linecases import (
+    EXAMPLE, THEORIES, cut_boxes, does_follow, eq, is_satisfiable, le, made_theories, meetings, negated, terms,
+)
 
 SUMS = [
     terms(), terms(x=1), terms(x=-3), terms(y=1), terms(x=2, y=-1), terms(x=1, y=1), terms(x=1, y=1, z=-2), terms(z=7),
@@ -68,6 +71,19 @@ class BoundsTest(unittest.TestCase):
                     self.assertEqual(span(theory, terms=one), (low, high))
                     self.check_highest(theory, one, high)
                     self.check_highest(theory, negated(one), None if low is None else (-low[0], low[1]))
+
+    def test_boxes_with_cuts(self):
+        for theory in cut_boxes(6, 60):
+            points = meetings(theory)
+            for one in sums_of(theory[0]):
+                values = [sum(dict(one).get(name, 0) * value for name, value in zip(theory[0], p)) for p in points]
+                if values:
+                    low, high = Fraction(min(values)), Fraction(max(values))
+                    wanted = ((low.numerator, low.denominator), (high.numerator, high.denominator))
+                    self.assertEqual(span(theory, terms=one), wanted)
+                else:
+                    with self.assertRaises(NoSolution):
+                        span(theory, terms=one)
 
     def check_highest(self, theory, one, value):
         if value is None:

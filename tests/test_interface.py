@@ -39,6 +39,16 @@ FUNCTIONS = {
     ],
     "sums": ["is_terms(terms)"],
     "bounds": ["greatest(theory, terms)", "least(theory, terms)", "span(theory, *, terms)"],
+    "corners": ["corners(theory)"],
+    "progressions": [
+        "progression(modulus, rest)", "is_in(number, steps)", "solve_one(coefficient, modulus, rest)",
+        "meet(*progressions)",
+    ],
+    "spreads": ["values_of(theory, terms)", "solutions_within(theory, *, low, high)"],
+    "tables": ["join_tables(first, second)", "drop_column(constraint, name)", "can_hold(constraint, decided)"],
+    "machines": ["column_numbers(names, assignment)", "run(machine, numbers)"],
+    "subsets": ["least_machine(machine)"],
+    "words": ["solutions(theory, length)"],
 }
 KIND_METHODS = [
     "names_in(self, constraint)", "is_valid(self, names, constraint)", "holds(self, constraint, assignment)",
@@ -47,7 +57,9 @@ KIND_METHODS = [
     "certificate(self, theory, constraint)", "accepts(self, theory, constraint, certificate)",
     "counterexample(self, theory, constraint)", "pin(self, names, assignment)",
 ]
-KINDS = {"bits": "Bits", "steps": "Steps", "lines": "Lines"}
+KINDS = {
+    "bits": "Bits", "steps": "Steps", "lines": "Lines", "wholes": "Wholes", "rows": "Rows", "words": "Words",
+}
 CLASSES = {
     "errors": {
         name: [] for name in (
@@ -78,8 +90,13 @@ CLASSES = {
     },
     **{module: {name: KIND_METHODS} for module, name in KINDS.items()},
 }
-PROPERTIES = {"parts": {"Part": ["names", "theory"]}, "differences": {"Differences": ["satisfiable", "lowest", "highest"]}}
-GENERATORS = {"parttexts": ["each_part"]}
+PROPERTIES = {
+    "parts": {"Part": ["names", "theory"]},
+    "differences": {"Differences": ["satisfiable", "lowest", "highest"]},
+}
+GENERATORS = {
+    "parttexts": ["each_part"], "corners": ["corners"], "spreads": ["solutions_within"], "words": ["solutions"],
+}
 
 
 def load(module):

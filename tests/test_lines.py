@@ -13,7 +13,9 @@ from shadowlinks.lines import Lines
 from shadowlinks.shadows import complete, satisfies, shadow, solve
 from shadowlinks.theories import join
 from tests.kindchecks import KindChecks
-from tests.linecases import EXAMPLE, THEORIES, does_follow, eq, is_satisfiable, le, made_theories, negated, terms
+from tests.linecases import (
+    EXAMPLE, THEORIES, cut_boxes, does_follow, eq, is_satisfiable, le, made_theories, meetings, negated, terms,
+)
 
 KIND = Lines()
 MORE = (*THEORIES, *made_theories(3, 60))
@@ -146,6 +148,20 @@ class NormalTest(unittest.TestCase):
         for theory in MORE:
             self.assertEqual(KIND.normal(theory)[1] == (le(-1),), not is_satisfiable(theory))
 
+    def test_boxes_with_cuts(self):
+        for theory in cut_boxes(8, 40):
+            names, found = KIND.normal(theory)
+            points = meetings(theory)
+            self.assertEqual(found == (le(-1),), points == [])
+            for constraint in theory[1] if points else ():
+                self.assertIsNotNone(KIND.certificate((names, found), constraint))
+            for one, sign, bound in found if points else ():
+                # Each constraint is met by enough of the corners, and by all of them exactly if it is an equation.
+                rest = [sum(dict(one).get(name, 0) * value for name, value in zip(names, p)) - bound for p in points]
+                self.assertEqual(max(rest), 0)
+                self.assertEqual(min(rest) == 0, sign == "=")
+            self.assertEqual(meetings((names, found)), points)
+
     def test_equations_and_inequalities(self):
         for theory in MORE:
             if is_satisfiable(theory):
@@ -262,6 +278,8 @@ class CertificateTest(unittest.TestCase):
         self.check(theory, le(1, x=1, y=-1), ((((1, (1, 0, -1)),), True), (((1, (2, 1, -2)),), False)))
         self.check(theory, le(99, x=-1), ((((1, (-1, 0, 0)),), False), (((1, (0, 1, -1)),), True)))
         self.check(theory, le(1, x=-1), ((((1, (0, 1, -1)),), False),))
+        self.check(theory, le(1, y=1), ((((-1, (0, 0, -1)),), False), (((-2, (0, 0, -2)),), False)))
+        self.check(theory, le(2, y=1), ((((-1, (0, 0, -1)),), False), (((1, (0, 0, 1)),), True)))
 
     def test_equations(self):
         theory = (XY, (le(3, x=1), le(-3, x=-1), eq(2, y=2)))

@@ -201,7 +201,10 @@ class CertificateTest(unittest.TestCase):
             (("", "c", -99), (0, 4, 0, 1, 2), False), (("c", "a", 0), (0, 4, 0), False),
             (("", "", 0), (), True), (("", "", 5), (), True), (("", "", -1), (), False), (("a", "b", 9), (), False),
             (("", "", -1), (0, 4), True), (("a", "b", 9), (-5,), False), (("a", "b", 9), (5,), False),
-            (("a", "c", 2), (0, -4), False), (("a", "c", 9), (0, 1, 5), False),
+            (("a", "c", 2), (0, -4), False), (("a", "c", 9), (0, 1, 5), False), (("b", "a", 9), (-1,), False),
+            # The ends fit, but what lies between them is no chain.
+            (("a", "", 99), (0, 3), False), (("a", "b", 99), (0, 2, 0), False), (("a", "a", -99), (0, 4, 2), False),
+            (("", "c", -99), (0, 2, 4), False), (("", "c", -99), (4, 4, 0), False),
         ):
             self.assertIs(KIND.accepts(theory, constraint, certificate), wanted, (constraint, certificate))
 
