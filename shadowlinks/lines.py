@@ -4,8 +4,8 @@ from shadowlinks.errors import NoSolution
 from shadowlinks.kinds import Kind
 from shadowlinks.linear import constraints_without, normal_constraints
 from shadowlinks.names import merge_names, replace_names
+from shadowlinks.points import pinned
 from shadowlinks.ratios import is_below, quotient, ratio_at, total
-from shadowlinks.shadows import satisfies
 from shadowlinks.sums import Sum, is_terms
 from shadowlinks.tableaus import filled_tableau
 
@@ -62,13 +62,13 @@ class Lines(Kind):
                     high = value
         if low is None:
             low = (0, 1) if high is None else high
-        if not satisfies(self, theory, {**assignment, name: low}):
+        if not self._all_hold(theory, {**assignment, name: low}):
             raise NoSolution(f"no value fits for {name}")
         return low
 
     def ground(self, theory):
         """Return the assignment without names if it is a solution, otherwise None."""
-        return {} if satisfies(self, theory, {}) else None
+        return {} if self._all_hold(theory, {}) else None
 
     def normal(self, theory):
         """Return the theory of the equations and the indispensable inequalities that follow."""
@@ -114,7 +114,11 @@ class Lines(Kind):
 
     def pin(self, names, assignment):
         """Return one equation for each name."""
-        return names, tuple([_pinned(name, assignment[name]) for name in names])
+        return names, tuple([pinned(name, assignment[name]) for name in names])
+
+    def _all_hold(self, theory, assignment):
+        """Return True if all constraints hold, otherwise False; the same function of shadows uses this kind."""
+        return all([self.holds(constraint, assignment) for constraint in theory[1]])
 
 
 def _inequalities(constraint):
@@ -139,8 +143,3 @@ def _is_right(constraints, terms, bound, pair):
     if scale == 0:
         return added.terms == () and limit < 0
     return added.terms == (scale * Sum(terms)).terms and limit <= scale * bound
-
-
-def _pinned(name, value):
-    """Return the equation that gives the name the value."""
-    return ((name, value[1]),), "=", value[0]

@@ -1,8 +1,13 @@
 """Checking, projecting and solving theories of any kind."""
 
+from shadowlinks.elimination import without_names
 from shadowlinks.errors import InvalidConstraint, InvalidTheory, NoSolution
+from shadowlinks.lines import Lines
 from shadowlinks.names import are_full_names
+from shadowlinks.points import completed_point
 from shadowlinks.theories import restrict
+from shadowlinks.wordpaths import completed_words, first_words
+from shadowlinks.words import Words
 
 
 def check_theory(kind, theory):
@@ -22,26 +27,26 @@ def satisfies(kind, theory, assignment):
 
 def shadow(kind, theory, *, shown):
     """Return the shadow of the theory over the shown names."""
-    hidden = [name for name in theory[0] if name not in shown]
-    return kind.normal(_eliminated(kind, theory, hidden)[0])
+    return kind.normal(without_names(kind, theory, [name for name in theory[0] if name not in shown]))
 
 
 def solve(kind, theory):
     """Return the first solution of the theory, or None."""
+    if isinstance(kind, Words):
+        return first_words(theory)
+    if isinstance(kind, Lines):
+        return completed_point(theory, {})
     theories = _eliminated(kind, theory, theory[0])
     start = kind.ground(theories[0])
-    if start is None:
-        return None
-    return _lifted(kind, theories, theory[0], start)
+    return None if start is None else _lifted(kind, theories, theory[0], start)
 
 
 def complete(kind, theory, assignment):
     """Return the assignment of some names completed to a solution of the theory."""
-    missing = [name for name in theory[0] if name not in assignment]
-    theories = _eliminated(kind, theory, missing)
-    if not satisfies(kind, theories[0], assignment):
+    found = _completed(kind, theory, assignment)
+    if found is None:
         raise NoSolution("the assignment cannot be extended to a solution")
-    return _lifted(kind, theories, missing, assignment)
+    return found
 
 
 def follows(kind, theory, constraint):
@@ -55,6 +60,19 @@ def implies(kind, first, second):
         if not follows(kind, first, constraint):
             return False
     return True
+
+
+def _completed(kind, theory, assignment):
+    """Return the assignment of some names completed to a solution of the theory, or None."""
+    if isinstance(kind, Words):
+        return completed_words(theory, assignment)
+    if isinstance(kind, Lines):
+        return completed_point(theory, assignment)
+    missing = [name for name in theory[0] if name not in assignment]
+    theories = _eliminated(kind, theory, missing)
+    if not satisfies(kind, theories[0], assignment):
+        return None
+    return _lifted(kind, theories, missing, assignment)
 
 
 def _eliminated(kind, theory, names):

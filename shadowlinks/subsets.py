@@ -1,4 +1,10 @@
-"""The least machine with the same solutions, and machines without one of their names."""
+"""The least machine with the same solutions, of one or several machines, and machines without some names."""
+
+from shadowlinks.machines import joined_machine
+from shadowlinks.names import merge_names
+
+# With more groups, telling them apart takes longer than it saves.
+MOST_GROUPS = 3000
 
 
 def least_machine(machine):
@@ -20,31 +26,95 @@ def least_machine(machine):
     return names, tuple(found), tuple([ends[classes.index(own)] for own in order])
 
 
-def without_name(machine, name):
-    """Return a machine over the other names that holds if the machine holds for some word of the name."""
+def joined_least(machines):
+    """Return the least machine over the names of all machines that holds where all of them hold."""
+    found = (), ((0,),), (1,)
+    for machine in machines:
+        found = least_machine(joined_machine(merge_names(found[0], machine[0]), [found, machine]))
+    return found
+
+
+def without_columns(machine, hidden):
+    """Return a machine over the other names that holds if the machine holds for some words of the hidden names."""
     names, moves, ends = machine
-    place = len(names) - 1 - names.index(name)
-    columns = [column for column in range(1 << len(names)) if column >> place & 1 == 0]
-    order = [(0,)]
-    numbers = {(0,): 0}
+    choices = _column_choices(names, hidden)
+    signs = _signs(moves, ends)
+    order = [[0]]
+    numbers = {signs[0]: 0}
     found = []
     while len(found) < len(order):
         row = []
-        for column in columns:
-            states = _either(moves, order[len(found)], column, column + (1 << place))
-            if states != () and states not in numbers:
-                numbers[states] = len(order)
+        for columns in choices:
+            sign, states = _united(signs, _next_states(moves, order[len(found)], columns))
+            if sign != 0 and sign not in numbers:
+                numbers[sign] = len(order)
                 order.append(states)
-            row.append(numbers.get(states, -1))
+            row.append(-1 if sign == 0 else numbers[sign])
         found.append(tuple(row))
-    others = tuple([other for other in names if other != name])
+    others = tuple([name for name in names if name not in hidden])
     return others, tuple(found), tuple([max([ends[state] for state in own]) for own in order])
 
 
-def _either(moves, states, column, other):
-    """Return the states to which one of two columns leads from one of the states."""
-    found = [moves[state][number] for state in states for number in (column, other)]
-    return tuple(sorted(set([state for state in found if state != -1])))
+def _column_choices(names, hidden):
+    """Return for each column of the other names the columns of all names that have its letters."""
+    choices = [[0]]
+    for name in names:
+        if name in hidden:
+            choices = [[2 * column + letter for column in columns for letter in (0, 1)] for columns in choices]
+        else:
+            choices = [[2 * column + letter for column in columns] for columns in choices for letter in (0, 1)]
+    return choices
+
+
+def _next_states(moves, states, columns):
+    """Return the states to which one of the columns leads from one of the states."""
+    found = [moves[state][column] for state in states for column in columns]
+    return sorted(set([state for state in found if state != -1]))
+
+
+def _united(signs, states):
+    """Return the sign of the states together, and as many of the states as are needed for it."""
+    sign = 0
+    needed = []
+    for state in states:
+        if sign | signs[state] != sign:
+            sign = sign | signs[state]
+            needed.append(state)
+    return sign, needed
+
+
+def _signs(moves, ends):
+    """Return a sign for each state: an integer whose binary digits stand for what leads from the state to an end.
+
+    Several states together have the binary digits of all of them. With equal signs, the same sequences
+    of column numbers lead to ends. So a machine that comes from guessing the letters of another name
+    does not get a state for each way in which the guesses can meet, of which only few differ.
+    """
+    groups = _groups(moves, ends)
+    if groups is None:
+        return [1 << state for state in range(len(moves))]
+    return [sum([1 << at for at, group in enumerate(groups) if group[state]]) for state in range(len(moves))]
+
+
+def _groups(moves, ends):
+    """Return the groups of sequences of column numbers that lead to ends from the same states, or None.
+
+    A group is a tuple with True or False for each state, and at least one True. None means that there
+    are too many groups.
+    """
+    waiting = [tuple([end == 1 for end in ends])]
+    found = {waiting[0]: True}
+    while waiting != []:
+        if len(found) > MOST_GROUPS:
+            return None
+        group = (*waiting.pop(), False)
+        for column in range(len(moves[0])):
+            # The last entry is the one at -1.
+            earlier = tuple([group[row[column]] for row in moves])
+            if earlier not in found:
+                found[earlier] = True
+                waiting.append(earlier)
+    return [group for group in found if True in group]
 
 
 def _lively_states(moves, ends):

@@ -4,9 +4,9 @@ from shadowlinks.errors import NoSolution
 from shadowlinks.kinds import Kind
 from shadowlinks.machines import all_end, column_numbers, joined_machine, rearranged_machine, run
 from shadowlinks.names import is_ascending, merge_names, replace_names
-from shadowlinks.shadows import satisfies
 from shadowlinks.statetuples import following, is_bad, is_state_tuple, move_tables, reached, start_of, words_to
-from shadowlinks.subsets import least_machine, without_name
+from shadowlinks.subsets import joined_least, least_machine, without_columns
+from shadowlinks.wordpaths import can_be_completed, first_word
 
 
 class Words(Kind):
@@ -45,29 +45,13 @@ class Words(Kind):
 
     def eliminate(self, theory, name):
         """Return the machines without the name, and the others as one machine that guesses its letters."""
-        names, machines = theory
-        kept = [machine for machine in machines if name not in machine[0]]
-        met = [machine for machine in machines if name in machine[0]]
-        if met != []:
-            kept.append(least_machine(without_name(_joined(met), name)))
-        return tuple([other for other in names if other != name]), tuple(kept)
+        return without_words(theory, [name])
 
     def lift(self, theory, name, assignment):
         """Return the first word that fits, in alphabetical order."""
-        length = assignment[""]
-        machines = theory[1]
-        numbers = [_numbers(machines, {**assignment, name: word}) for word in ("a" * length, "b" * length)]
-        ways = _ways(machines, numbers, length)
-        lively = _lively(machines, ways)
-        states = tuple([0 for _ in machines])
-        if states not in lively[0]:
+        found = first_word(theory, name, assignment)
+        if found is None:
             raise NoSolution(f"no value fits for {name}")
-        found = ""
-        for index in range(length):
-            by_a, by_b = ways[index][states]
-            letter = "a" if by_a in lively[index + 1] else "b"
-            states = by_a if letter == "a" else by_b
-            found = found + letter
         return found
 
     def ground(self, theory):
@@ -87,7 +71,7 @@ class Words(Kind):
     def normal(self, theory):
         """Return the theory of the least machine over all names."""
         names, machines = theory
-        return names, (least_machine(joined_machine(names, [_joined(machines)])),)
+        return names, (least_machine(joined_machine(names, [joined_least(machines)])),)
 
     def certificate(self, theory, constraint):
         """Return all state tuples that can be reached if they show the constraint, otherwise None."""
@@ -121,28 +105,34 @@ class Words(Kind):
         return names, ((names, tuple(moves), (*[0 for _ in numbers], 1)),)
 
 
+def without_words(theory, hidden):
+    """Return the machines without the hidden names, and the others as one machine that guesses their letters."""
+    names, machines = theory
+    kept = [machine for machine in machines if not _mentions(machine, hidden)]
+    met = [machine for machine in machines if _mentions(machine, hidden)]
+    if met != []:
+        kept.append(least_machine(without_columns(joined_least(met), hidden)))
+    return tuple([name for name in names if name not in hidden]), tuple(kept)
+
+
 def solutions(theory, length):
     """Yield the solutions with this ground, each as a new dict, in ascending order of the words."""
-    theories = [theory]
-    for name in theory[0][::-1]:
-        theories.append(Words().eliminate(theories[-1], name))
-    wider = theories[-2::-1]
     start = {"": length}
-    if satisfies(Words(), theories[-1], start):
-        yield from _extensions(wider, start)
+    if can_be_completed(theory, start):
+        yield from _extensions(theory, start)
 
 
-def _extensions(theories, values):
-    """Yield the solutions with these values; each theory has one name more than the one before it."""
-    if theories == []:
+def _extensions(theory, values):
+    """Yield the solutions with these values, of which there is at least one."""
+    names = theory[0]
+    missing = [name for name in names if name not in values]
+    if missing == []:
         yield dict(values)
         return
-    name = theories[0][0][-1]
-    wider = theories[1:]
     for word in _words_of_length(values[""]):
-        more = {**values, name: word}
-        if satisfies(Words(), theories[0], more):
-            yield from _extensions(wider, more)
+        more = {**values, missing[0]: word}
+        if can_be_completed(theory, more):
+            yield from _extensions(theory, more)
 
 
 def _words_of_length(length):
@@ -153,46 +143,6 @@ def _words_of_length(length):
     return words
 
 
-def _joined(machines):
-    """Return one machine over the names of all machines that holds where all of them hold."""
-    found = (), ((0,),), (1,)
-    for machine in machines:
-        found = least_machine(joined_machine(merge_names(found[0], machine[0]), [found, machine]))
-    return found
-
-
-def _numbers(machines, assignment):
-    """Return for each machine the column numbers of its words."""
-    return [column_numbers(machine[0], assignment) for machine in machines]
-
-
-def _ways(machines, numbers, length):
-    """Return for each index of a word the states that can be met there, with the next states by a and by b.
-
-    The last dict has the states that can be met behind the word.
-    """
-    present = [tuple([0 for _ in machines])]
-    ways = []
-    for index in range(length):
-        by_a, by_b = [[own[index] for own in columns] for columns in numbers]
-        way = {states: (_moved(machines, states, by_a), _moved(machines, states, by_b)) for states in present}
-        ways.append(way)
-        later = {states: True for pair in list(way.values()) for states in pair if states is not None}
-        present = list(later)
-    ways.append({states: () for states in present})
-    return ways
-
-
-def _moved(machines, states, numbers):
-    """Return the next states of the machines by these column numbers, or None if one meets -1."""
-    found = tuple([machine[1][state][number] for machine, state, number in zip(machines, states, numbers)])
-    return None if -1 in found else found
-
-
-def _lively(machines, ways):
-    """Return for each index, and behind the word, the states from which all machines can end."""
-    found = [{states: True for states in ways[-1] if all_end(machines, states)}]
-    for way in ways[-2::-1]:
-        later = found[-1]
-        found.append({states: True for states in way if any([other in later for other in way[states]])})
-    return found[::-1]
+def _mentions(machine, names):
+    """Return True if the machine reads the words of one of the names, otherwise False."""
+    return any([name in machine[0] for name in names])

@@ -1,11 +1,13 @@
-"""Points 83 and 84: the least machine."""
+"""Points 83 and 84: the least machine; and machines joined and without some of their names."""
 
 import copy
 import random
 import unittest
 from time import perf_counter
 
-from shadowlinks.subsets import least_machine
+from shadowlinks.subsets import joined_least, least_machine, without_columns
+from shadowlinks.words import Words
+from tests.kindchecks import subsets
 from tests.texts import check_tuples
 from tests.wordcases import ANY, DIFFERENT, EVEN_GROUND, NONE, REPEATED, UNDER, all_assignments, does_hold, made_machine
 
@@ -130,6 +132,87 @@ class LeastTest(unittest.TestCase):
         found = least_machine((names, moves, tuple(maker.randrange(2) for _ in range(200))))
         self.assertGreater(len(found[1]), 100)
         self.assertLess(perf_counter() - start, 2)
+
+
+def nth_letter(count):
+    """A machine that holds if x or y has a b at the index before the count."""
+    rows = [(at + 1,) * 4 for at in range(count - 1)]
+    return ("x", "y"), (*rows, (-1, count, count, count), (count,) * 4), (*[0] * count, 1)
+
+
+class WithoutColumnsTest(unittest.TestCase):
+    def words_of(self, machine, names, length):
+        """The words of the names in the solutions of the machine."""
+        solutions = [values for values in all_assignments(machine[0], length) if does_hold(machine, values)]
+        return {tuple(values[name] for name in names) for values in solutions}
+
+    def check(self, machine, hidden, longest):
+        found = without_columns(machine, hidden)
+        others = tuple(name for name in machine[0] if name not in hidden)
+        self.assertEqual(found[0], others)
+        self.assertIs(Words().is_valid(others, found), True)
+        for length in range(longest + 1):
+            wanted = self.words_of(machine, others, length)
+            self.assertEqual(self.words_of(found, others, length), wanted, (machine, hidden))
+
+    def test_examples(self):
+        found = least_machine(without_columns(REPEATED, ["x"]))
+        self.assertEqual(found, EVEN_GROUND)
+        self.assertEqual(least_machine(without_columns(UNDER, ["y"])), (("x",), ((0, 0),), (1,)))
+        self.assertEqual(least_machine(without_columns(DIFFERENT, ["x"])), (("y",), ((1, 1), (1, 1)), (0, 1)))
+        self.assertEqual(without_columns((("x",), ((0, 0),), (0,)), ["x"]), ((), ((-1,),), (0,)))
+
+    def test_some_or_all_names(self):
+        maker = random.Random(6)
+        for _ in range(60):
+            machine = made_machine(maker, ("x", "y"), 4)
+            for hidden in subsets(machine[0]):
+                self.check(machine, hidden, 4)
+        for _ in range(20):
+            rows = [tuple(maker.randrange(-1, 3) for _ in range(8)) for _ in range(3)]
+            for hidden in subsets(("x", "y", "z")):
+                self.check((("x", "y", "z"), tuple(rows), (0, 1, maker.randrange(2))), hidden, 2)
+
+    def test_machines_that_are_large_when_read_backwards(self):
+        # A sequence leads to the end from any of 2 ** count sets of states.
+        for count in (3, 12):
+            for hidden, names in ((["y"], ("x",)), (["x", "y"], ())):
+                found = least_machine(without_columns(nth_letter(count), hidden))
+                moves = [(at + 1,) * 2 ** len(names) for at in range(count)]
+                self.assertEqual(found, (names, (*moves, moves[-1]), (*[0] * count, 1)))
+        self.check(nth_letter(3), ["y"], 4)
+
+    def test_one_name_after_the_other_is_quick(self):
+        # Without y, these have some hundred states, whose sets are many more.
+        first = (
+            (0, 1, 0, -1, 2, 2, 2, 1), (1, -1, 1, 0, 1, -1, 2, 1), (0, 0, 2, 2, 0, 1, 1, -1),
+        )
+        second = ((0, 0, 2, 1, 1, 0, 0, 1), (2, 1, 2, 0, 1, 1, 2, 2), (1, 2, 1, 2, 0, 0, 1, 2))
+        names = ("x", "y", "z")
+        both = joined_least([(names, first, (1, 1, 1)), (names, second, (1, 0, 1))])
+        start = perf_counter()
+        for order in ("xyz", "xzy", "yxz", "yzx", "zxy", "zyx"):
+            left = both
+            for at, name in enumerate(order):
+                left = least_machine(without_columns(left, [name]))
+                self.assertEqual(left, least_machine(without_columns(both, order[:at + 1])))
+        self.assertLess(perf_counter() - start, 3)
+
+
+class JoinedTest(unittest.TestCase):
+    def test_joined(self):
+        self.assertEqual(joined_least([]), ANY)
+        self.assertEqual(joined_least([REPEATED]), REPEATED)
+        self.assertEqual(joined_least([REPEATED, NONE]), (("x",), ((-1, -1),), (0,)))
+        maker = random.Random(7)
+        for _ in range(40):
+            machines = [made_machine(maker, ("x", "y")) for _ in range(3)]
+            found = joined_least(machines)
+            self.assertEqual(faults(found), [])
+            self.assertEqual(found[0], tuple(sorted({name for machine in machines for name in machine[0]})))
+            for length in range(4):
+                for values in all_assignments(("x", "y"), length):
+                    self.assertIs(does_hold(found, values), all(does_hold(machine, values) for machine in machines))
 
 
 if __name__ == "__main__":

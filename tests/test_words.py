@@ -362,6 +362,19 @@ class QuickTest(unittest.TestCase):
         KIND.normal(both)
         self.assertLess(perf_counter() - start, 5)
 
+    def test_shadows_of_machines_with_many_sets_of_states(self):
+        names = ("x", "y", "z")
+        first = (names, ((0, 1, 0, -1, 2, 2, 2, 1), (1, -1, 1, 0, 1, -1, 2, 1), (0, 0, 2, 2, 0, 1, 1, -1)), (1, 1, 1))
+        second = (names, ((0, 0, 2, 1, 1, 0, 0, 1), (2, 1, 2, 0, 1, 1, 2, 2), (1, 2, 1, 2, 0, 0, 1, 2)), (1, 0, 1))
+        theory = (names, (first, second))
+        start = perf_counter()
+        for order in permutations(names):
+            left = theory
+            for at, name in enumerate(order):
+                left = KIND.eliminate(left, name)
+                self.assertEqual(KIND.normal(left), shadow(KIND, theory, shown=order[at + 1:]))
+        self.assertLess(perf_counter() - start, 5)
+
 
 if __name__ == "__main__":
     unittest.main()
