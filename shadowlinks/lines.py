@@ -117,7 +117,8 @@ class Lines(Kind):
         return names, tuple([pinned(name, assignment[name]) for name in names])
 
     def _all_hold(self, theory, assignment):
-        """Return True if all constraints hold, otherwise False; the same function of shadows uses this kind."""
+        """Return True if all constraints of the theory hold, otherwise False."""
+        # The function of shadows that does the same cannot be imported: shadows imports this class.
         return all([self.holds(constraint, assignment) for constraint in theory[1]])
 
 
