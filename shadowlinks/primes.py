@@ -12,8 +12,8 @@ def failing(names, clauses):
         return everything(names)
     if clauses == []:
         return 0
-    low = failing(names[1:], _decided(clauses, names[0], 0))
-    high = failing(names[1:], _decided(clauses, names[0], 1))
+    low = failing(names[1:], when_decided(clauses, names[0], 0))
+    high = failing(names[1:], when_decided(clauses, names[0], 1))
     return low | high << _half(names)
 
 
@@ -39,12 +39,12 @@ def everything(names):
     return (1 << (1 << len(names))) - 1
 
 
-def _half(names):
-    """Return the number of the assignments in which the first name is 0."""
-    return 1 << (len(names) - 1)
-
-
-def _decided(clauses, name, value):
+def when_decided(clauses, name, value):
     """Return what is left of the clauses when the name has the value."""
     left = [clause for clause in clauses if (name, value) not in clause]
     return [tuple([literal for literal in clause if literal[0] != name]) for clause in left]
+
+
+def _half(names):
+    """Return the number of the assignments in which the first name is 0."""
+    return 1 << (len(names) - 1)

@@ -49,6 +49,16 @@ FUNCTIONS = {
     "machines": ["column_numbers(names, assignment)", "run(machine, numbers)"],
     "subsets": ["least_machine(machine)"],
     "words": ["solutions(theory, length)"],
+    "bitlists": ["each_solution(theory)"],
+    "rowbridge": ["rows_of_bits(theory)"],
+    "wordbridge": ["words_of_bits(theory)"],
+    "linebridge": ["lines_of_steps(theory)"],
+    "paritybridge": ["bits_of_parities(theory)", "parities_of_bits(theory)"],
+    "bitgrades": [
+        "combine(grade, *assignments)", "bit_grades(theory)", "breach(theory, *, grade)", "envelope(theory, *, grade)",
+    ],
+    "linegrades": ["two_names(theory)"],
+    "wholegrades": ["equations_only(theory)"],
 }
 KIND_METHODS = [
     "names_in(self, constraint)", "is_valid(self, names, constraint)", "holds(self, constraint, assignment)",
@@ -96,6 +106,7 @@ PROPERTIES = {
 }
 GENERATORS = {
     "parttexts": ["each_part"], "corners": ["corners"], "spreads": ["solutions_within"], "words": ["solutions"],
+    "bitlists": ["each_solution"],
 }
 
 

@@ -189,7 +189,8 @@ class LanguageTest(unittest.TestCase):
             parents = parents_in(tree)
             for node in ast.walk(tree):
                 if is_call(node, names):
-                    at_once = isinstance(parents[node], (ast.For, ast.YieldFrom)) or is_call(parents[node], TAKERS)
+                    places = (ast.For, ast.comprehension, ast.YieldFrom)
+                    at_once = isinstance(parents[node], places) or is_call(parents[node], TAKERS)
                     self.assertTrue(at_once, f"{file} {node.lineno}")
 
     def test_words_and_strings(self):
