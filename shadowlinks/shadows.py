@@ -5,7 +5,7 @@ from shadowlinks.errors import InvalidConstraint, InvalidTheory, NoSolution
 from shadowlinks.lines import Lines
 from shadowlinks.names import are_full_names
 from shadowlinks.points import completed_point
-from shadowlinks.theories import restrict
+from shadowlinks.theories import join, restrict
 from shadowlinks.wordpaths import completed_words, first_words
 from shadowlinks.words import Words
 
@@ -30,6 +30,11 @@ def shadow(kind, theory, *, shown):
     return kind.normal(without_names(kind, theory, [name for name in theory[0] if name not in shown]))
 
 
+def part_shadow(kind, part):
+    """Return the shadow of the part over its shown names."""
+    return shadow(kind, part.theory, shown=part.shown)
+
+
 def solve(kind, theory):
     """Return the first solution of the theory, or None."""
     if isinstance(kind, Words):
@@ -39,6 +44,11 @@ def solve(kind, theory):
     theories = _eliminated(kind, theory, theory[0])
     start = kind.ground(theories[0])
     return None if start is None else _lifted(kind, theories, theory[0], start)
+
+
+def can_be_solved(kind, theories):
+    """Return True if the join of the theories has a solution, otherwise False."""
+    return solve(kind, join(theories)) is not None
 
 
 def complete(kind, theory, assignment):

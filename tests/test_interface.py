@@ -59,6 +59,27 @@ FUNCTIONS = {
     ],
     "linegrades": ["two_names(theory)"],
     "wholegrades": ["equations_only(theory)"],
+    "links": [
+        "whole(link)", "shadows(link)", "works(link)", "solution(link)", "culprits(link)", "bundled(link, name, *, shown)",
+    ],
+    "orders": ["groups_of(kind, theory)", "clusters(groups, order)", "price(groups, order)", "cheapest(groups, names)"],
+    "trees": [
+        "walk(parents)", "check_tree(groups, parents)", "join_tree(groups)", "messages(kind, theories, parents)",
+        "views(kind, theories, parents)",
+    ],
+    "compare": [
+        "works_in(kind, part, theory)", "compare(kind, first, second)", "surrounding(kind, first, second)",
+        "least_surrounding(kind, first, second)", "flattened(kind, part)", "alike_families(kind, parts)",
+        "idle_names(kind, part)", "silent(kind, part)", "core(kind, part, *, backwards=False)",
+        "reasons(kind, theory, constraint, *, backwards=False)", "middle(kind, first, second)",
+        "middles(kind, *theories)",
+    ],
+    "trials": ["attempt(linker, deeds)", "commit(linker, deeds)"],
+    "meetings": [
+        "cheapest_shadow(kind, theory, *, shown)", "link_tree(link)", "part_views(link)", "fill_in(link, assignment)",
+        "decide(link, constraint)", "nested(link, *teams)",
+    ],
+    "scripts": ["read_script(kind, lines, *, first=1)", "format_script(kind, commands)"],
 }
 KIND_METHODS = [
     "names_in(self, constraint)", "is_valid(self, names, constraint)", "holds(self, constraint, assignment)",
@@ -98,15 +119,44 @@ CLASSES = {
             "__mul__(self, other)", "__rmul__(self, other)", "at(self, assignment)", "renamed(self, table)",
         ],
     },
+    "links": {
+        "Link": [
+            "__init__(self, kind, parts)", "__len__(self)", "__iter__(self)", "__contains__(self, x)",
+            "__getitem__(self, at)", "__add__(self, other)", "__sub__(self, other)", "replaced(self, part)",
+        ],
+    },
+    "linker": {
+        "Linker": [
+            "__init__(self, kind)", "__len__(self)", "__iter__(self)", "__contains__(self, x)", "__getitem__(self, at)",
+            "__setitem__(self, at, worth)", "__iadd__(self, other)", "__isub__(self, other)", "put(self, part)",
+            "take(self, name)", "edit(self, part)", "exchange(self, name, part)", "release(self, part)",
+            "say(self, name, *constraints)", "unsay(self, name, index)", "hide(self, name, shown)",
+            "unhide(self, name, hidden)", "flatten(self, name)", "undo(self, *, steps=1)", "redo(self, *, steps=1)",
+            "perform(self, word, *arguments)", "entries_about(self, name)", "shadow_of(self, name)",
+            "current_link(self)", "current_solution(self)", "current_culprits(self)", "why(self, constraint)",
+            "fits(self, part)", "surrounding_of(self, name)", "report(self)",
+        ],
+    },
+    "trials": {
+        name: ["__init__(self, linker)", "__enter__(self)", "__exit__(self, kind, value, trace)"]
+        for name in ("Trial", "Batch")
+    },
+    "desk": {"Desk": ["__init__(self, kind)", "run(self, lines)", "saved(self)"]},
     **{module: {name: KIND_METHODS} for module, name in KINDS.items()},
 }
 PROPERTIES = {
     "parts": {"Part": ["names", "theory"]},
     "differences": {"Differences": ["satisfiable", "lowest", "highest"]},
+    "links": {"Link": ["interface"]},
+    "linker": {"Linker": ["working", "journal"]},
+}
+CLASS_METHODS = {
+    "parts": ("Part", "bare", "(cls, word, name)"),
+    "linker": ("Linker", "of", "(cls, kind, parts)"),
 }
 GENERATORS = {
     "parttexts": ["each_part"], "corners": ["corners"], "spreads": ["solutions_within"], "words": ["solutions"],
-    "bitlists": ["each_solution"],
+    "bitlists": ["each_solution"], "orders": ["clusters"], "trees": ["walk"],
 }
 
 
@@ -137,9 +187,10 @@ class InterfaceTest(unittest.TestCase):
                     self.assertEqual(method.__name__ + str(inspect.signature(method)), wanted)
 
     def test_class_methods_and_properties(self):
-        bare = vars(load("parts").Part)["bare"]
-        self.assertIsInstance(bare, classmethod)
-        self.assertEqual(str(inspect.signature(bare.__func__)), "(cls, word, name)")
+        for module, (name, method, wanted) in CLASS_METHODS.items():
+            found = vars(getattr(load(module), name))[method]
+            self.assertIsInstance(found, classmethod)
+            self.assertEqual(str(inspect.signature(found.__func__)), wanted)
         for module, classes in PROPERTIES.items():
             for name, properties in classes.items():
                 for wanted in properties:
