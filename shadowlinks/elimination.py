@@ -1,6 +1,10 @@
 """Eliminating several names from a theory of any kind."""
 
+from shadowlinks.machines import names_of
 from shadowlinks.words import Words, without_words
+
+# Machines are joined at once if the joined machine has this many moves at most.
+MOST_MOVES = 100000
 
 
 def without_names(kind, theory, names):
@@ -11,8 +15,7 @@ def without_names(kind, theory, names):
         # Names that meet few other names come first, because what is left then stays small.
         first = min([(len(_met(kind, left, name)), name) for name in waiting])[1]
         if isinstance(kind, Words):
-            # Guessing the letters of several names at once takes fewer states than one after another.
-            gone = _names_of_the_same(kind, left, first, waiting)
+            gone = _names_at_once(left[1], first, waiting)
             left = without_words(left, gone)
         else:
             gone = [first]
@@ -27,8 +30,40 @@ def _met(kind, theory, name):
     return {other: True for mentioned in lists if name in mentioned for other in mentioned}
 
 
-def _names_of_the_same(kind, theory, name, names):
-    """Return the name and those of the names that only constraints with this name mention."""
-    others = [kind.names_in(constraint) for constraint in theory[1]]
-    elsewhere = [other for mentioned in others if name not in mentioned for other in mentioned]
+def _names_at_once(machines, name, names):
+    """Return the name and those of the names whose letters are guessed together with it.
+
+    Guessing the letters of several names at once takes fewer states than one after another. It takes
+    all machines that read one of the names, though, and together they must not be too many.
+    """
+    near = [name]
+    met = _with_names(machines, near)
+    while len(near) < len(_names_in(met, names)):
+        near = _names_in(met, names)
+        met = _with_names(machines, near)
+    return near if _many_moves(met) <= MOST_MOVES else _names_of_the_same(machines, name, names)
+
+
+def _names_of_the_same(machines, name, names):
+    """Return the name and those of the names that only machines with this name mention."""
+    elsewhere = names_of([machine for machine in machines if name not in machine[0]])
     return [other for other in names if other == name or other not in elsewhere]
+
+
+def _with_names(machines, names):
+    """Return the machines that read the word of one of the names."""
+    return [machine for machine in machines if any([name in machine[0] for name in names])]
+
+
+def _names_in(machines, names):
+    """Return those of the names whose words the machines read."""
+    read = names_of(machines)
+    return [name for name in names if name in read]
+
+
+def _many_moves(machines):
+    """Return how many moves the machines have at most when they are joined."""
+    many = 1 << len(names_of(machines))
+    for machine in machines:
+        many = many * len(machine[1])
+    return many

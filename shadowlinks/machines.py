@@ -71,6 +71,40 @@ def all_end(machines, states):
     return all([machine[2][state] == 1 for machine, state in zip(machines, states)])
 
 
+def least_ground(machines):
+    """Return the least ground for which the machines, which have no names, hold, or None if there is none."""
+    states = tuple([0 for _ in machines])
+    seen = {}
+    while states not in seen:
+        if all_end(machines, states):
+            return len(seen)
+        seen[states] = True
+        states = tuple([machine[1][state][0] for machine, state in zip(machines, states)])
+        if -1 in states:
+            return None
+    return None
+
+
+def names_of(machines):
+    """Return the names whose words one of the machines reads, in ascending order."""
+    lists = [machine[0] for machine in machines]
+    return merge_names(*lists)
+
+
+def connected_machines(machines):
+    """Return the machines in groups, so that machines of different groups share no names."""
+    groups = []
+    for machine in machines:
+        near, far = [machine], []
+        for group in groups:
+            if any([name in machine[0] for name in names_of(group)]):
+                near = [*group, *near]
+            else:
+                far.append(group)
+        groups = [*far, near]
+    return groups
+
+
 def _number_of(letters):
     """Return the number of the column with the letters."""
     number = 0

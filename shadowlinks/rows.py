@@ -93,12 +93,11 @@ def _joined(tables):
 
 def _explored(theory, constraint):
     """Return a tree of cases and None, or None and a solution in which the constraint fails."""
-    others = [name for name in theory[0] if name not in constraint[0]]
-    return _cases((*constraint[0], *others), theory[1], constraint, {})
+    return _cases(theory[0], theory[1], constraint, {})
 
 
 def _cases(names, tables, constraint, decided):
-    """Return the same for decided values; the tables have only rows that agree with them."""
+    """Return the same for decided values of other names; the tables have only rows that agree with them."""
     for index, table in enumerate(tables):
         if table[1] == ():
             return index, None
@@ -106,15 +105,25 @@ def _cases(names, tables, constraint, decided):
         return -1, None
     if names == ():
         return None, decided
+    name = _next_name(names, tables, constraint)
+    others = tuple([other for other in names if other != name])
     trees = []
     for value in VALUES:
-        one = {names[0]: value}
-        fewer = [agreeing(table, one) if names[0] in table[0] else table for table in tables]
-        tree, found = _cases(names[1:], fewer, constraint, {**decided, **one})
+        one = {name: value}
+        fewer = [agreeing(table, one) if name in table[0] else table for table in tables]
+        tree, found = _cases(others, fewer, constraint, {**decided, **one})
         if found is not None:
             return None, found
         trees.append(tree)
-    return (names[0], *trees), None
+    return (name, *trees), None
+
+
+def _next_name(names, tables, constraint):
+    """Return the name to be decided next: one of the constraint, and one that few rows are about."""
+    asked = [name for name in names if name in constraint[0]]
+    waiting = names if asked == [] else asked
+    sizes = [(len(rows), name) for own, rows in tables for name in own if name in waiting]
+    return min(sizes)[1] if sizes != [] else waiting[0]
 
 
 def _is_shown(constraint, decided):

@@ -3,8 +3,9 @@
 from shadowlinks.machines import joined_machine
 from shadowlinks.names import merge_names
 
-# With more groups, telling them apart takes longer than it saves.
-MOST_GROUPS = 3000
+# With more groups, or with more states in all groups together, telling them apart takes longer than it saves.
+MOST_GROUPS = 5000
+MOST_DIGITS = 12000000
 
 
 def least_machine(machine):
@@ -13,17 +14,20 @@ def least_machine(machine):
     lively = _lively_states(moves, ends)
     trimmed = [[move if move in lively else -1 for move in row] for row in moves]
     classes = _classes(trimmed, ends)
+    first = {}
+    for state, own in enumerate(classes):
+        first.setdefault(own, state)
     order = [classes[0]]
     numbers = {classes[0]: 0}
     found = []
     while len(found) < len(order):
-        row = trimmed[classes.index(order[len(found)])]
+        row = trimmed[first[order[len(found)]]]
         for later in row:
             if later != -1 and classes[later] not in numbers:
                 numbers[classes[later]] = len(order)
                 order.append(classes[later])
         found.append(tuple([-1 if move == -1 else numbers[classes[move]] for move in row]))
-    return names, tuple(found), tuple([ends[classes.index(own)] for own in order])
+    return names, tuple(found), tuple([ends[first[own]] for own in order])
 
 
 def joined_least(machines):
@@ -38,14 +42,16 @@ def without_columns(machine, hidden):
     """Return a machine over the other names that holds if the machine holds for some words of the hidden names."""
     names, moves, ends = machine
     choices = _column_choices(names, hidden)
-    signs = _signs(moves, ends)
+    rows = [[_states_in([row[column] for column in columns]) for columns in choices] for row in moves]
+    signs = _signs(rows, ends)
     order = [[0]]
     numbers = {signs[0]: 0}
     found = []
     while len(found) < len(order):
         row = []
-        for columns in choices:
-            sign, states = _united(signs, _next_states(moves, order[len(found)], columns))
+        for column in range(len(choices)):
+            later = [state for own in order[len(found)] for state in rows[own][column]]
+            sign, states = _united(signs, _states_in(later))
             if sign != 0 and sign not in numbers:
                 numbers[sign] = len(order)
                 order.append(states)
@@ -66,10 +72,9 @@ def _column_choices(names, hidden):
     return choices
 
 
-def _next_states(moves, states, columns):
-    """Return the states to which one of the columns leads from one of the states."""
-    found = [moves[state][column] for state in states for column in columns]
-    return sorted(set([state for state in found if state != -1]))
+def _states_in(moves):
+    """Return the states to which the moves lead, each once."""
+    return sorted(set([move for move in moves if move != -1]))
 
 
 def _united(signs, states):
@@ -83,38 +88,41 @@ def _united(signs, states):
     return sign, needed
 
 
-def _signs(moves, ends):
+def _signs(rows, ends):
     """Return a sign for each state: an integer whose binary digits stand for what leads from the state to an end.
 
-    Several states together have the binary digits of all of them. With equal signs, the same sequences
-    of column numbers lead to ends. So a machine that comes from guessing the letters of another name
-    does not get a state for each way in which the guesses can meet, of which only few differ.
+    A row has a list of next states for each column. Several states together have the binary digits of
+    all of them. With equal signs, the same sequences of column numbers lead to ends. So a machine that
+    comes from guessing letters does not get a state for each way in which the guesses can meet, of
+    which only few differ.
     """
-    groups = _groups(moves, ends)
+    groups = _groups(rows, ends)
     if groups is None:
-        return [1 << state for state in range(len(moves))]
-    return [sum([1 << at for at, group in enumerate(groups) if group[state]]) for state in range(len(moves))]
+        return [1 << state for state in range(len(rows))]
+    return [int("0" + "".join([group[state] for group in groups]), 2) for state in range(len(rows))]
 
 
-def _groups(moves, ends):
+def _groups(rows, ends):
     """Return the groups of sequences of column numbers that lead to ends from the same states, or None.
 
-    A group is a tuple with True or False for each state, and at least one True. None means that there
-    are too many groups.
+    A group is a string with 1 or 0 for each state, and at least one 1. None means that there are too
+    many groups.
     """
-    waiting = [tuple([end == 1 for end in ends])]
+    digits = [1 << state for state in range(len(rows))][::-1]
+    many = len(rows[0])
+    masks = [[sum([digits[later] for later in row[column]]) for row in rows] for column in range(many)]
+    waiting = ["".join([str(end) for end in ends])]
     found = {waiting[0]: True}
     while waiting != []:
-        if len(found) > MOST_GROUPS:
+        if len(found) > MOST_GROUPS or len(found) * len(rows) > MOST_DIGITS:
             return None
-        group = (*waiting.pop(), False)
-        for column in range(len(moves[0])):
-            # The last entry is the one at -1.
-            earlier = tuple([group[row[column]] for row in moves])
+        group = int(waiting.pop(), 2)
+        for own in masks:
+            earlier = "".join(["1" if mask & group != 0 else "0" for mask in own])
             if earlier not in found:
                 found[earlier] = True
                 waiting.append(earlier)
-    return [group for group in found if True in group]
+    return [group for group in found if "1" in group]
 
 
 def _lively_states(moves, ends):

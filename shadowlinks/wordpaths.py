@@ -3,9 +3,10 @@
 No name is eliminated here: the machine that is left of several machines may need very many states.
 """
 
-from shadowlinks.machines import all_end, column_numbers, own_columns
+from shadowlinks.machines import all_end, column_numbers, connected_machines, least_ground, names_of, own_columns
 from shadowlinks.names import merge_names
 from shadowlinks.subsets import joined_least
+from shadowlinks.theories import restrict
 
 # Two machines are joined if they read this many names together, and have this many pairs of states.
 MOST_NAMES = 3
@@ -14,27 +15,30 @@ MOST_PAIRS = 100
 
 def first_words(theory):
     """Return the first solution of the theory, or None."""
-    fewer = _with_fewer_machines(theory)
-    length = _least_length(fewer)
+    fewer = with_fewer_machines(theory)
+    groups = connected_machines(fewer[1])
+    # Machines that share no names have their words side by side, and only the ground is common.
+    length = least_ground([length_machine(group) for group in groups]) if len(groups) > 1 else _least_length(fewer)
     return None if length is None else completed_words(fewer, {"": length})
 
 
 def completed_words(theory, assignment):
     """Return the assignment with the first words of the names that it lacks, or None if it has no completion."""
-    fewer = _with_fewer_machines(theory)
-    if not can_be_completed(fewer, assignment):
-        return None
-    values = dict(assignment)
-    for name in fewer[0]:
-        if name not in assignment:
-            values[name] = first_word(fewer, name, values)
+    values = {name: "a" * assignment[""] for name in theory[0]}
+    values.update(assignment)
+    for group in connected_machines(with_fewer_machines(theory)[1]):
+        names = names_of(group)
+        found = _completed((names, group), restrict(assignment, [name for name in names if name in assignment]))
+        if found is None:
+            return None
+        values.update(found)
     return values
 
 
 def can_be_completed(theory, assignment):
     """Return True if some solution has the ground and the words of the assignment, otherwise False."""
     lively = _lively(theory[1], _ways(theory, [assignment]))
-    return _start_of(theory) in lively[0]
+    return _start_of(theory[1]) in lively[0]
 
 
 def first_word(theory, name, assignment):
@@ -44,7 +48,7 @@ def first_word(theory, name, assignment):
     """
     ways = _ways(theory, [{**assignment, name: letter * assignment[""]} for letter in "ab"])
     lively = _lively(theory[1], ways)
-    present = [_start_of(theory)]
+    present = [_start_of(theory[1])]
     if present[0] not in lively[0]:
         return None
     word = ""
@@ -55,12 +59,68 @@ def first_word(theory, name, assignment):
     return word
 
 
+def with_fewer_machines(theory):
+    """Return the theory with small machines joined; states from which a joined one cannot end are left out."""
+    names, machines = theory
+    found = []
+    for machine in machines:
+        fitting = [at for at, other in enumerate(found) if _are_small(machine, other)]
+        if fitting == []:
+            found.append(machine)
+        else:
+            found[fitting[0]] = joined_least([found[fitting[0]], machine])
+    return names, tuple(found)
+
+
+def theory_about(theory, names):
+    """Return a theory that tells the same about the names: the machines that are connected with them.
+
+    The other machines only tell for which grounds there are words.
+    """
+    near, far = [], []
+    for group in connected_machines(with_fewer_machines(theory)[1]):
+        if any([name in names_of(group) for name in names]):
+            near.extend(group)
+        else:
+            far.append(length_machine(group))
+    return merge_names(names, names_of(near)), (*near, *far)
+
+
+def length_machine(machines):
+    """Return the machine without names that holds for the grounds for which the machines hold for some words."""
+    guesses = _guesses(machines, names_of(machines))
+    columns = [0 for _ in machines]
+    later = {}
+    present = (_start_of(machines),)
+    numbers = {}
+    while present not in numbers:
+        numbers[present] = len(numbers)
+        for states in present:
+            if states not in later:
+                later[states] = _next_states(machines, guesses, states, columns)
+        present = tuple(sorted(set([following for states in present for following in later[states]])))
+    moves = [(number + 1,) for number in range(len(numbers) - 1)]
+    ends = [1 if any([all_end(machines, states) for states in own]) else 0 for own in numbers]
+    return (), (*moves, (numbers[present],)), tuple(ends)
+
+
+def _completed(theory, assignment):
+    """Return the same for a theory whose machines are connected."""
+    if not can_be_completed(theory, assignment):
+        return None
+    values = dict(assignment)
+    for name in theory[0]:
+        if name not in assignment:
+            values[name] = first_word(theory, name, values)
+    return values
+
+
 def _least_length(theory):
     """Return the least ground of a solution, or None if there is no solution."""
     names, machines = theory
     guesses = _guesses(machines, names)
     columns = [0 for _ in machines]
-    present = [_start_of(theory)]
+    present = [_start_of(theory[1])]
     seen = {present[0]: True}
     length = 0
     while present != []:
@@ -74,19 +134,6 @@ def _least_length(theory):
     return None
 
 
-def _with_fewer_machines(theory):
-    """Return the theory with small machines joined; states from which a joined one cannot end are left out."""
-    names, machines = theory
-    found = []
-    for machine in machines:
-        fitting = [at for at, other in enumerate(found) if _are_small(machine, other)]
-        if fitting == []:
-            found.append(machine)
-        else:
-            found[fitting[0]] = joined_least([found[fitting[0]], machine])
-    return names, tuple(found)
-
-
 def _are_small(first, second):
     """Return True if two machines are so small that they are joined, otherwise False."""
     if len(merge_names(first[0], second[0])) > MOST_NAMES:
@@ -94,9 +141,9 @@ def _are_small(first, second):
     return len(first[1]) * len(second[1]) <= MOST_PAIRS
 
 
-def _start_of(theory):
+def _start_of(machines):
     """Return the states of the machines before they read."""
-    return tuple([0 for _ in theory[1]])
+    return tuple([0 for _ in machines])
 
 
 def _ways(theory, assignments):
@@ -107,7 +154,7 @@ def _ways(theory, assignments):
     names, machines = theory
     guesses = _guesses(machines, [name for name in names if name not in assignments[0]])
     numbers = [_numbers(theory, assignment) for assignment in assignments]
-    present = [_start_of(theory)]
+    present = [_start_of(theory[1])]
     ways = []
     for index in range(assignments[0][""]):
         columns = [[own[index] for own in rows] for rows in numbers]

@@ -2,11 +2,11 @@
 
 from shadowlinks.errors import NoSolution
 from shadowlinks.kinds import Kind
-from shadowlinks.machines import all_end, column_numbers, joined_machine, rearranged_machine, run
+from shadowlinks.machines import column_numbers, joined_machine, least_ground, rearranged_machine, run
 from shadowlinks.names import is_ascending, merge_names, replace_names
 from shadowlinks.statetuples import following, is_bad, is_state_tuple, move_tables, reached, start_of, words_to
 from shadowlinks.subsets import joined_least, least_machine, without_columns
-from shadowlinks.wordpaths import can_be_completed, first_word
+from shadowlinks.wordpaths import can_be_completed, completed_words, first_word, theory_about
 
 
 class Words(Kind):
@@ -56,17 +56,8 @@ class Words(Kind):
 
     def ground(self, theory):
         """Return the least ground under which all machines hold, as an assignment, or None."""
-        machines = theory[1]
-        states = tuple([0 for _ in machines])
-        seen = {}
-        while states not in seen:
-            if all_end(machines, states):
-                return {"": len(seen)}
-            seen[states] = True
-            states = tuple([machine[1][state][0] for machine, state in zip(machines, states)])
-            if -1 in states:
-                return None
-        return None
+        length = least_ground(theory[1])
+        return None if length is None else {"": length}
 
     def normal(self, theory):
         """Return the theory of the least machine over all names."""
@@ -93,8 +84,10 @@ class Words(Kind):
 
     def counterexample(self, theory, constraint):
         """Return a solution with the least ground in which the constraint fails, or None."""
-        before, bad = reached(theory, constraint)
-        return None if bad is None else words_to(theory, constraint, before, bad)
+        # Machines that share no names with the constraint only tell which grounds there are.
+        about = theory_about(theory, constraint[0])
+        before, bad = reached(about, constraint)
+        return None if bad is None else completed_words(theory, words_to(about, constraint, before, bad))
 
     def pin(self, names, assignment):
         """Return one machine over all names, which reads the words and then ends."""
