@@ -1,27 +1,46 @@
 """Eliminating several names from a theory of any kind."""
 
 from shadowlinks.machines import names_of
+from shadowlinks.wordpaths import first_ground, with_fewer_machines
 from shadowlinks.words import Words, without_words
 
-# Machines are joined at once if the joined machine has this many moves at most.
+# Machines that have so few moves when they are joined are joined without others.
+FEW_MOVES = 100
+# All machines that meet in names are joined at once if they have at most so many moves when they are joined.
 MOST_MOVES = 100000
 
 
 def without_names(kind, theory, names):
     """Return what is left of the theory when the names are eliminated."""
+    if isinstance(kind, Words):
+        return _without_words(kind, theory, names)
     left = theory
     waiting = list(names)
     while waiting != []:
-        # Names that meet few other names come first, because what is left then stays small.
-        first = min([(len(_met(kind, left, name)), name) for name in waiting])[1]
-        if isinstance(kind, Words):
-            gone = _names_at_once(left[1], first, waiting)
-            left = without_words(left, gone)
-        else:
-            gone = [first]
-            left = kind.eliminate(left, first)
+        first = _first_name(kind, left, waiting)
+        left = kind.eliminate(left, first)
+        waiting.remove(first)
+    return left
+
+
+def _without_words(kind, theory, names):
+    """Return the same for the kind words, some names at once."""
+    if len(names) == 0:
+        return theory
+    left = with_fewer_machines(theory)
+    if first_ground(left) is None:
+        return tuple([name for name in theory[0] if name not in names]), (kind.contradiction(),)
+    waiting = list(names)
+    while waiting != []:
+        gone = _names_at_once(left[1], _first_name(kind, left, waiting), waiting)
+        left = without_words(left, gone)
         waiting = [name for name in waiting if name not in gone]
     return left
+
+
+def _first_name(kind, theory, names):
+    """Return the name that meets the fewest other names, because what is left then stays small."""
+    return min([(len(_met(kind, theory, name)), name) for name in names])[1]
 
 
 def _met(kind, theory, name):
@@ -36,12 +55,15 @@ def _names_at_once(machines, name, names):
     Guessing the letters of several names at once takes fewer states than one after another. It takes
     all machines that read one of the names, though, and together they must not be too many.
     """
-    near = [name]
+    same = _names_of_the_same(machines, name, names)
+    if _many_moves(_with_names(machines, same)) <= FEW_MOVES:
+        return same
+    near = same
     met = _with_names(machines, near)
     while len(near) < len(_names_in(met, names)):
         near = _names_in(met, names)
         met = _with_names(machines, near)
-    return near if _many_moves(met) <= MOST_MOVES else _names_of_the_same(machines, name, names)
+    return near if _many_moves(met) <= MOST_MOVES else same
 
 
 def _names_of_the_same(machines, name, names):

@@ -18,7 +18,7 @@ class Standing:
 
 
 class Linker:
-    """A linker. What is stored in its attributes is replaced and never changed, so it can be given back."""
+    """A live linker. What its attributes hold is replaced and never changed."""
 
     DEEDS = ("put", "take", "edit", "exchange", "release", "say", "unsay", "hide", "unhide", "flatten")
 
@@ -26,7 +26,7 @@ class Linker:
         self.kind = kind
         self.standing = Standing((), (), True)
         self.entries = ()
-        # Pairs of a standing and the name in the entry of the deed behind which, or before which, it was left.
+        # What can be undone and redone: pairs of the standing to which the step leads and the name in its entry.
         self.done = ()
         self.undone = ()
 

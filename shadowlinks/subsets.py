@@ -42,7 +42,7 @@ def without_columns(machine, hidden):
     """Return a machine over the other names that holds if the machine holds for some words of the hidden names."""
     names, moves, ends = machine
     choices = _column_choices(names, hidden)
-    rows = [[_states_in([row[column] for column in columns]) for columns in choices] for row in moves]
+    rows = [[_states_in([row[number] for number in numbered]) for numbered in choices] for row in moves]
     signs = _signs(rows, ends)
     order = [[0]]
     numbers = {signs[0]: 0}

@@ -12,22 +12,18 @@ class Trial:
         return self._linker
 
     def __exit__(self, kind, value, trace):
-        self._give_back()
-
-    def _remember(self):
-        """Keep what the linker has now."""
-        self._standing = self._linker.standing
-        self._entries = self._linker.entries
-        self._done = self._linker.done
-        self._undone = self._linker.undone
-
-    def _give_back(self):
-        """Give the linker what it had."""
         linker = self._linker
         linker.standing = self._standing
         linker.entries = self._entries
         linker.done = self._done
         linker.undone = self._undone
+
+    def _remember(self):
+        """Keep what the linker has now. It is replaced there and never changed, so it can be given back."""
+        self._standing = self._linker.standing
+        self._entries = self._linker.entries
+        self._done = self._linker.done
+        self._undone = self._linker.undone
 
 
 class Batch(Trial):
@@ -48,7 +44,10 @@ class Batch(Trial):
             linker.done = self._after
             linker.undone = ()
         else:
-            self._give_back()
+            linker.standing = self._standing
+            linker.entries = self._entries
+            linker.done = self._done
+            linker.undone = self._undone
 
 
 def attempt(linker, deeds):

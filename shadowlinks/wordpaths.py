@@ -16,10 +16,15 @@ MOST_PAIRS = 100
 def first_words(theory):
     """Return the first solution of the theory, or None."""
     fewer = with_fewer_machines(theory)
-    groups = connected_machines(fewer[1])
-    # Machines that share no names have their words side by side, and only the ground is common.
-    length = least_ground([length_machine(group) for group in groups]) if len(groups) > 1 else _least_length(fewer)
+    length = first_ground(fewer)
     return None if length is None else completed_words(fewer, {"": length})
+
+
+def first_ground(theory):
+    """Return the least ground of a solution, or None if there is no solution."""
+    groups = connected_machines(theory[1])
+    # Machines that share no names have their words side by side, and only the ground is common.
+    return least_ground([length_machine(group) for group in groups]) if len(groups) > 1 else _least_length(theory)
 
 
 def completed_words(theory, assignment):
@@ -100,7 +105,7 @@ def length_machine(machines):
                 later[states] = _next_states(machines, guesses, states, columns)
         present = tuple(sorted(set([following for states in present for following in later[states]])))
     moves = [(number + 1,) for number in range(len(numbers) - 1)]
-    ends = [1 if any([all_end(machines, states) for states in own]) else 0 for own in numbers]
+    ends = [1 if any([all_end(machines, one) for one in own]) else 0 for own in numbers]
     return (), (*moves, (numbers[present],)), tuple(ends)
 
 
@@ -116,7 +121,7 @@ def _completed(theory, assignment):
 
 
 def _least_length(theory):
-    """Return the least ground of a solution, or None if there is no solution."""
+    """Return the same for a theory whose machines are connected."""
     names, machines = theory
     guesses = _guesses(machines, names)
     columns = [0 for _ in machines]
