@@ -1,8 +1,6 @@
 """Where the parts of a link meet: orders and trees of links, filling in, deciding and nesting."""
 
-from shadowlinks.errors import InvalidLink, InvalidName
 from shadowlinks.links import Link, bundled, shadows, whole, with_hidden
-from shadowlinks.names import is_name
 from shadowlinks.orders import cheapest, groups_of
 from shadowlinks.shadows import shadow
 from shadowlinks.theories import join
@@ -47,7 +45,6 @@ def decide(link, constraint):
 
 def nested(link, *teams):
     """Return the link of a bundle for each team."""
-    _check_teams(teams)
     bundles = []
     for name, members in teams:
         inside = [part for part in link.parts if part.name in members]
@@ -55,15 +52,5 @@ def nested(link, *teams):
         elsewhere = [shown for part in outside for shown in part.shown]
         team = Link(link.kind, inside)
         bundles.append(bundled(team, name, shown=[shown for shown in team.interface if shown in elsewhere]))
+    # A bundle raises an error if the name of its team is no plain name; two of one name meet only here.
     return Link(link.kind, bundles)
-
-
-def _check_teams(teams):
-    """Raise an error for the first name of a team that is no plain name, or that an earlier team has."""
-    names = [name for name, _ in teams]
-    for name in names:
-        if not is_name(name):
-            raise InvalidName(name)
-    for index, name in enumerate(names):
-        if name in names[:index]:
-            raise InvalidLink(name)

@@ -29,10 +29,9 @@ def parities_of_bits(theory):
 
 def _clauses_of(constraint):
     """Return the clauses for a parity or the contradiction, in ascending order."""
-    terms, modulus, rest = constraint
-    if modulus == 0:
-        return [()]
+    terms, _, rest = constraint
     odd = tuple([name for name, number in terms if number % 2 == 1])
+    # Without odd coefficients, there is one assignment, of no names.
     failing = [values for values in each_solution((odd, ())) if (sum(values.values()) - rest) % 2 == 1]
     return sorted([tuple([(name, 1 - values[name]) for name in odd]) for values in failing])
 

@@ -5,8 +5,13 @@ import unittest
 from time import perf_counter
 
 from shadowlinks.elimination import without_names
+from shadowlinks.linker import Linker
+from shadowlinks.links import Link
 from shadowlinks.machines import connected_machines, least_ground, names_of
+from shadowlinks.meetings import part_views
+from shadowlinks.parts import Part
 from shadowlinks.shadows import follows, satisfies, shadow, solve
+from shadowlinks.theories import join
 from shadowlinks.wordpaths import first_ground, length_machine, theory_about
 from shadowlinks.words import Words
 from tests.wordcases import (
@@ -59,6 +64,10 @@ class GroundTest(unittest.TestCase):
         self.assertEqual(least_ground([threes]), 2)
         self.assertEqual(least_ground([threes, ((), ((1,), (0,)), (0, 1))]), 5)
         self.assertIsNone(least_ground([NONE, ANY]))
+        # Behind -1, nothing is read, though the last state is an end.
+        self.assertIsNone(least_ground([((), ((-1,), (0,)), (0, 1))]))
+        self.assertIsNone(least_ground([ANY, ((), ((1,), (-1,), (1,)), (0, 0, 1))]))
+        self.assertIsNone(KIND.ground(((), (((), ((-1,), (0,)), (0, 1)),))))
         self.assertIsNone(least_ground([((), ((1,), (0,)), (0, 1)), EVEN_GROUND]))
 
     def test_lengths(self):
@@ -126,6 +135,42 @@ class QuickTest(unittest.TestCase):
         theory = ("a", "b", "c"), (*machines, NONE)
         self.assertEqual(without_names(KIND, theory, ["b"]), (("a", "c"), (NONE,)))
         self.assertLess(perf_counter() - start, 5)
+
+
+class HardLinksTest(unittest.TestCase):
+    """Links whose shadows take very many states if names are eliminated in an order that does not suit them."""
+
+    def machine(self, maker, names, holes):
+        moves = tuple(
+            tuple(-1 if maker.random() < holes else maker.randrange(3) for _ in range(2 ** len(names))) for _ in range(3)
+        )
+        return names, moves, tuple(maker.randrange(2) for _ in range(3))
+
+    def link(self, seed):
+        maker, parts, left = random.Random(seed), [], 6
+        for at in range(4):
+            many = min(left, maker.choice([1, 2, 2]))
+            left -= many
+            shown = tuple(sorted(maker.sample("abcde", maker.randrange(1, 4 - many) if many < 2 else 1)))
+            names = tuple(sorted((*shown, *"hk"[:many])))
+            holes = maker.choice([0, 0.2, 0.3, 0.4, 0.5])
+            owns = [
+                names if maker.random() < 0.8 else tuple(sorted(maker.sample(names, min(2, len(names))))) for _ in range(2)
+            ]
+            machines = [self.machine(maker, own, holes) for own in owns]
+            parts.append(Part("words", f"p{at}", shown, "hk"[:many], machines))
+        return Link(KIND, parts)
+
+    def test_views_and_surroundings(self):
+        for seed in (101832, 101937, 204716, 207614, 406939, 603091, 1301924):
+            link = self.link(seed)
+            start = perf_counter()
+            found = part_views(link)
+            linker = Linker.of(KIND, link.parts)
+            for one, view in zip(link, found):
+                both = join([linker.surrounding_of(one.name), linker.shadow_of(one.name)])
+                self.assertEqual(KIND.normal(both), view)
+            self.assertLess(perf_counter() - start, 8, seed)
 
 
 if __name__ == "__main__":

@@ -30,6 +30,7 @@ METHODS = set(
     " setdefault split splitlines startswith strip update upper values zfill bit_length removeprefix"
     " removesuffix".split()
 )
+COMPREHENSIONS = (ast.ListComp, ast.SetComp, ast.DictComp, ast.GeneratorExp)
 GIVERS = {"zip", "enumerate", "reversed", "range"}
 TAKERS = {"list", "tuple", "dict", "sorted", "sum", "any", "all", "enumerate", "zip", "min", "max"}
 
@@ -64,6 +65,22 @@ def functions_in(tree):
 
 def is_generator(function):
     return any(isinstance(node, (ast.Yield, ast.YieldFrom)) for node in ast.walk(function))
+
+
+def targets_of(comprehension):
+    every = [node for part in comprehension.generators for node in ast.walk(part.target)]
+    return {node.id for node in every if isinstance(node, ast.Name)}
+
+
+def own_variables(node):
+    """The names that a function assigns outside of comprehensions."""
+    found = {node.arg} if isinstance(node, ast.arg) else set()
+    if isinstance(node, ast.Name) and isinstance(node.ctx, ast.Store):
+        found.add(node.id)
+    for child in ast.iter_child_nodes(node):
+        if not isinstance(child, COMPREHENSIONS):
+            found |= own_variables(child)
+    return found
 
 
 class LanguageTest(unittest.TestCase):
@@ -192,6 +209,30 @@ class LanguageTest(unittest.TestCase):
                     places = (ast.For, ast.comprehension, ast.YieldFrom)
                     at_once = isinstance(parents[node], places) or is_call(parents[node], TAKERS)
                     self.assertTrue(at_once, f"{file} {node.lineno}")
+
+    def test_no_signs_that_change(self):
+        # Linkers have `+=` and `-=` of their own, so these stand nowhere else.
+        for file, _, tree in sources():
+            for node in ast.walk(tree):
+                self.assertNotIsInstance(node, ast.AugAssign, f"{file} {getattr(node, 'lineno', 0)}")
+
+    def test_variables_of_inner_comprehensions(self):
+        for file, _, tree in sources():
+            for function in functions_in(tree):
+                assigned = own_variables(function)
+                for node in ast.walk(function):
+                    if isinstance(node, COMPREHENSIONS):
+                        for inner in ast.walk(node):
+                            if isinstance(inner, COMPREHENSIONS) and inner is not node:
+                                both = targets_of(inner) & (assigned | targets_of(node))
+                                self.assertEqual(both, set(), f"{file} {inner.lineno}")
+
+    def test_blocks_give_back_by_plain_assignments(self):
+        found = [node for _, _, tree in sources() for node in functions_in(tree) if node.name == "__exit__"]
+        self.assertEqual(len(found), 2)
+        for function in found:
+            for node in ast.walk(function):
+                self.assertNotIsInstance(node, (ast.Call, ast.BinOp, ast.Return, ast.Raise, ast.For, ast.While))
 
     def test_words_and_strings(self):
         for file, text, tree in sources():
