@@ -1,6 +1,6 @@
 """Eliminating several names from a theory of any kind."""
 
-from shadowlinks.machines import names_of
+from shadowlinks.machines import many_states, names_of
 from shadowlinks.wordpaths import first_ground, with_fewer_machines
 from shadowlinks.words import Words, without_words
 
@@ -85,7 +85,4 @@ def _names_in(machines, names):
 
 def _many_moves(machines):
     """Return how many moves the machines have at most when they are joined."""
-    many = 1 << len(names_of(machines))
-    for machine in machines:
-        many = many * len(machine[1])
-    return many
+    return many_states(machines) << len(names_of(machines))

@@ -3,7 +3,7 @@
 from shadowlinks.compare import compare, flattened, surrounding
 from shadowlinks.dropping import items_at, needed_indices
 from shadowlinks.errors import Incompatible, InvalidConstraint, InvalidLink, NothingToUndo, UnknownPart
-from shadowlinks.links import Link, culprits_by, solution_by
+from shadowlinks.links import Link, culprits_by, small_theories, solution_by
 from shadowlinks.shadows import can_be_solved, check_theory, follows, part_shadow, shadow
 from shadowlinks.theories import join, widen
 
@@ -211,11 +211,11 @@ class Linker:
         names = self.current_link().interface
         if not self.kind.is_valid(names, constraint):
             raise InvalidConstraint(0)
-        found = self.standing.found
-        if not _does_follow(self.kind, names, found, constraint):
+        theories = small_theories(self.kind, self.standing.parts, self.standing.found)
+        if not _does_follow(self.kind, names, theories, constraint):
             return None
         left = needed_indices(
-            len(found), lambda indices: _does_follow(self.kind, names, items_at(found, indices), constraint)
+            len(theories), lambda indices: _does_follow(self.kind, names, items_at(theories, indices), constraint)
         )
         return tuple([part.name for part in items_at(self.standing.parts, left)])
 
@@ -224,7 +224,9 @@ class Linker:
         if part.word != self.kind.WORD:
             raise InvalidLink(part.name)
         check_theory(self.kind, part.theory)
-        return can_be_solved(self.kind, [*self._found_without(part.name), part_shadow(self.kind, part)])
+        others = [own for own in self.standing.parts if own.name != part.name]
+        found = [*self._found_without(part.name), part_shadow(self.kind, part)]
+        return can_be_solved(self.kind, small_theories(self.kind, [*others, part], found))
 
     def surrounding_of(self, name):
         """Return what the other parts tell about the shown names of the part."""
@@ -271,7 +273,8 @@ class Linker:
 
     def _work_out(self, word, name, parts, found):
         """Do the deed after which the linker has these parts, with these shadows."""
-        self._enter(word, name, 1, Standing(parts, found, can_be_solved(self.kind, found)))
+        working_together = can_be_solved(self.kind, small_theories(self.kind, parts, found))
+        self._enter(word, name, 1, Standing(parts, found, working_together))
 
     def _enter(self, word, name, looked, standing):
         """Do the deed with this entry, which leads to the standing."""

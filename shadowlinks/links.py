@@ -2,10 +2,13 @@
 
 from shadowlinks.dropping import items_at, needed_indices
 from shadowlinks.errors import InvalidLink, InvalidPart, UnknownPart
+from shadowlinks.machines import many_states
 from shadowlinks.names import merge_names
 from shadowlinks.parts import Part
 from shadowlinks.shadows import can_be_solved, complete, part_shadow, solve
 from shadowlinks.theories import join, restrict
+from shadowlinks.wordpaths import first_words
+from shadowlinks.words import Words
 
 
 class Link:
@@ -55,8 +58,7 @@ class Link:
 
 def whole(link):
     """Return the whole of the link: the join of the theories of the parts, with the hidden names renamed."""
-    tables = [{name: full_name(part, name) for name in part.hidden} for part in link.parts]
-    return join([link.kind.rename(part.theory, table) for part, table in zip(link.parts, tables)])
+    return join([_renamed_theory(link.kind, part) for part in link.parts])
 
 
 def shadows(link):
@@ -66,7 +68,7 @@ def shadows(link):
 
 def works(link):
     """Return True if the link works, otherwise False."""
-    return can_be_solved(link.kind, shadows(link))
+    return can_be_solved(link.kind, small_theories(link.kind, link.parts, shadows(link)))
 
 
 def solution(link):
@@ -95,18 +97,32 @@ def full_name(part, hidden):
     return f"{part.name}.{hidden}"
 
 
+def small_theories(kind, parts, found):
+    """Return for each part its shadow, one of those found, or its theory in the whole of a link.
+
+    Both tell the same about the shown names. In the kind words, a shadow may need far more states than
+    the machines of the part have together.
+    """
+    if not isinstance(kind, Words):
+        return list(found)
+    pairs = [(own, _renamed_theory(kind, part)) for part, own in zip(parts, found)]
+    return [own if many_states(own[1]) <= many_states(theory[1]) else theory for own, theory in pairs]
+
+
 def solution_by(link, found):
     """Return the solution of the link whose parts have these shadows, or None."""
-    first = solve(link.kind, join(found))
+    joined = join(small_theories(link.kind, link.parts, found))
+    first = first_words(joined, link.interface) if isinstance(link.kind, Words) else solve(link.kind, joined)
     return None if first is None else with_hidden(link, first)
 
 
 def culprits_by(link, found):
     """Return the culprits of the link whose parts have these shadows."""
     kind = link.kind
-    if can_be_solved(kind, found):
+    theories = small_theories(kind, link.parts, found)
+    if can_be_solved(kind, theories):
         return ()
-    left = needed_indices(len(found), lambda indices: not can_be_solved(kind, items_at(found, indices)))
+    left = needed_indices(len(theories), lambda indices: not can_be_solved(kind, items_at(theories, indices)))
     return tuple([part.name for part in items_at(link.parts, left)])
 
 
@@ -118,6 +134,11 @@ def with_hidden(link, assignment):
         for name in part.hidden:
             values[full_name(part, name)] = own[name]
     return values
+
+
+def _renamed_theory(kind, part):
+    """Return the theory of the part with the names that the hidden ones have in the whole of a link."""
+    return kind.rename(part.theory, {name: full_name(part, name) for name in part.hidden})
 
 
 def _check_parts(kind, parts):

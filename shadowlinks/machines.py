@@ -91,6 +91,14 @@ def names_of(machines):
     return merge_names(*lists)
 
 
+def many_states(machines):
+    """Return how many states the machines have at most when they are joined."""
+    many = 1
+    for machine in machines:
+        many = many * len(machine[1])
+    return many
+
+
 def connected_machines(machines):
     """Return the machines in groups, so that machines of different groups share no names."""
     groups = []

@@ -38,7 +38,7 @@ def part_shadow(kind, part):
 def solve(kind, theory):
     """Return the first solution of the theory, or None."""
     if isinstance(kind, Words):
-        return first_words(theory)
+        return first_words(theory, theory[0])
     if isinstance(kind, Lines):
         return completed_point(theory, {})
     theories = _eliminated(kind, theory, theory[0])

@@ -4,7 +4,7 @@ from shadowlinks.machines import joined_machine
 from shadowlinks.names import merge_names
 
 # With more groups, or with more states in all groups together, telling them apart takes longer than it saves.
-MOST_GROUPS = 5000
+MOST_GROUPS = 30000
 MOST_DIGITS = 12000000
 
 

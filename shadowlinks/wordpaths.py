@@ -13,11 +13,11 @@ MOST_NAMES = 3
 MOST_PAIRS = 100
 
 
-def first_words(theory):
-    """Return the first solution of the theory, or None."""
+def first_words(theory, names):
+    """Return the first solution of what is left of the theory without names other than these, or None."""
     fewer = with_fewer_machines(theory)
     length = first_ground(fewer)
-    return None if length is None else completed_words(fewer, {"": length})
+    return None if length is None else _with_first_words(fewer, {"": length}, names)
 
 
 def first_ground(theory):
@@ -29,15 +29,7 @@ def first_ground(theory):
 
 def completed_words(theory, assignment):
     """Return the assignment with the first words of the names that it lacks, or None if it has no completion."""
-    values = {name: "a" * assignment[""] for name in theory[0]}
-    values.update(assignment)
-    for group in connected_machines(with_fewer_machines(theory)[1]):
-        names = names_of(group)
-        found = _completed((names, group), restrict(assignment, [name for name in names if name in assignment]))
-        if found is None:
-            return None
-        values.update(found)
-    return values
+    return _with_first_words(with_fewer_machines(theory), assignment, theory[0])
 
 
 def can_be_completed(theory, assignment):
@@ -109,13 +101,26 @@ def length_machine(machines):
     return (), (*moves, (numbers[present],)), tuple(ends)
 
 
-def _completed(theory, assignment):
+def _with_first_words(theory, assignment, names):
+    """Return the assignment with the first words of those of the names that it lacks, or None."""
+    values = {name: "a" * assignment[""] for name in names}
+    values.update(assignment)
+    for group in connected_machines(theory[1]):
+        own = names_of(group)
+        found = _completed((own, group), restrict(assignment, [name for name in own if name in assignment]), names)
+        if found is None:
+            return None
+        values.update(found)
+    return values
+
+
+def _completed(theory, assignment, names):
     """Return the same for a theory whose machines are connected."""
     if not can_be_completed(theory, assignment):
         return None
     values = dict(assignment)
     for name in theory[0]:
-        if name not in assignment:
+        if name in names and name not in assignment:
             values[name] = first_word(theory, name, values)
     return values
 

@@ -34,17 +34,17 @@ def theories_of_many_names(seed, count):
 class FirstTest(unittest.TestCase):
     def test_examples(self):
         theory = (("x", "y"), (REPEATED, UNDER))
-        self.assertEqual(first_words(theory), {"": 0, "x": "", "y": ""})
-        self.assertEqual(first_words((("x", "y"), (*theory[1], DIFFERENT))), {"": 2, "x": "ab", "y": "bb"})
-        self.assertEqual(first_words(((), ())), {"": 0})
-        self.assertEqual(first_words(((), (EVEN_GROUND, ((), ((1,), (1,)), (0, 1))))), {"": 2})
-        self.assertIsNone(first_words(((), (NONE,))))
-        self.assertIsNone(first_words((("x",), (REPEATED, NONE))))
-        self.assertIsNone(first_words((("x",), (REPEATED, ((), ((1,), (0,)), (0, 1))))))
+        self.assertEqual(first_words(theory, theory[0]), {"": 0, "x": "", "y": ""})
+        self.assertEqual(first_words((("x", "y"), (*theory[1], DIFFERENT)), ("x", "y")), {"": 2, "x": "ab", "y": "bb"})
+        self.assertEqual(first_words(((), ()), ()), {"": 0})
+        self.assertEqual(first_words(((), (EVEN_GROUND, ((), ((1,), (1,)), (0, 1)))), ()), {"": 2})
+        self.assertIsNone(first_words(((), (NONE,)), ()))
+        self.assertIsNone(first_words((("x",), (REPEATED, NONE)), ("x",)))
+        self.assertIsNone(first_words((("x",), (REPEATED, ((), ((1,), (0,)), (0, 1)))), ("x",)))
 
     def test_the_first_of_all_solutions(self):
         for theory in (*MORE, *theories_of_many_names(1, 30)):
-            found = first_words(theory)
+            found = first_words(theory, theory[0])
             for length in range(min(longest(theory), 1 if len(theory[0]) > 3 else 9) + 1):
                 all_of_them = solutions_of(theory, length)
                 if all_of_them or found is not None and found[""] == length:
@@ -97,7 +97,7 @@ class CompletedTest(unittest.TestCase):
             return (name,), (*rows, (-1, count), (count, count)), (*[0] * count, 1)
 
         theory = (("x", "y"), (nth("x", 11), nth("y", 12), DIFFERENT))
-        found = first_words(theory)
+        found = first_words(theory, theory[0])
         self.assertEqual(found, {"": 12, "x": "a" * 10 + "ba", "y": "a" * 11 + "b"})
         given = {"": 12, "x": "a" * 10 + "bb"}
         self.assertEqual(completed_words(theory, given), {**given, "y": "a" * 11 + "b"})
@@ -121,7 +121,7 @@ class QuickTest(unittest.TestCase):
         for _ in range(10):
             machines = [made_machine(maker, pair) for pair in zip(names, names[1:])]
             theory = (names, (ANY, *machines[:8]))
-            found = first_words(theory)
+            found = first_words(theory, theory[0])
             self.assertTrue(found is None or satisfies(KIND, theory, found))
         self.assertLess(perf_counter() - start, 5)
 
