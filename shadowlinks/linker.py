@@ -231,7 +231,9 @@ class Linker:
     def surrounding_of(self, name):
         """Return what the other parts tell about the shown names of the part."""
         shown = self[name].shown
-        return shadow(self.kind, widen(join(self._found_without(name)), *shown), shown=shown)
+        others = [part for part in self.standing.parts if part.name != name]
+        theories = small_theories(self.kind, others, self._found_without(name))
+        return shadow(self.kind, widen(join(theories), *shown), shown=shown)
 
     def report(self):
         """Return a line for each part and a line about the whole."""

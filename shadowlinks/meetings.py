@@ -1,10 +1,10 @@
 """Where the parts of a link meet: orders and trees of links, filling in, deciding and nesting."""
 
-from shadowlinks.links import Link, bundled, shadows, whole, with_hidden
+from shadowlinks.links import Link, bundled, shadows, small_theories, whole, with_hidden
 from shadowlinks.orders import cheapest, groups_of
 from shadowlinks.shadows import shadow
 from shadowlinks.theories import join
-from shadowlinks.trees import join_tree, views
+from shadowlinks.trees import join_tree
 
 
 def cheapest_shadow(kind, theory, *, shown):
@@ -21,11 +21,7 @@ def link_tree(link):
 
 def part_views(link):
     """Return for each part the shadow of the whole over its shown names."""
-    found = shadows(link)
-    tree = link_tree(link)
-    if tree is not None:
-        return views(link.kind, found, tree)
-    joined = join(found)
+    joined = join(small_theories(link.kind, link.parts, shadows(link)))
     return tuple([shadow(link.kind, joined, shown=part.shown) for part in link.parts])
 
 
