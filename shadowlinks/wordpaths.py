@@ -145,8 +145,10 @@ def _least_length(theory):
 
 
 def _are_small(first, second):
-    """Return True if two machines are so small that they are joined, otherwise False."""
-    if len(merge_names(first[0], second[0])) > MOST_NAMES:
+    """Return True if two machines meet and are so small that they are joined, otherwise False."""
+    both = merge_names(first[0], second[0])
+    apart = len(both) == len(first[0]) + len(second[0])
+    if len(both) > MOST_NAMES or apart and () not in (first[0], second[0]):
         return False
     return len(first[1]) * len(second[1]) <= MOST_PAIRS
 
