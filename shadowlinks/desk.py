@@ -41,8 +41,9 @@ class Desk:
         except NothingToUndo:
             return ("refused nothing",)
         except Incompatible as edition:
-            word = self.linker.kind.WORD
-            return "refused edition", *[format_constraint(word, told) for told in edition.surrounding[1]]
+            kind = self.linker.kind
+            _, constraints = edition.surrounding
+            return "refused edition", *[format_constraint(kind.WORD, told) for told in constraints]
 
     def _carried_out(self, command):
         """Carry out the command and return its reply if no error is raised."""
@@ -55,18 +56,19 @@ class Desk:
     def _answer(self, word, *about):
         """Return the reply to a question."""
         linker = self.linker
+        kind = linker.kind
         match word:
             case "works":
                 return linker.report()[-1:]
             case "solution":
                 found = linker.current_solution()
-                return ("none" if found is None else format_assignment(linker.kind.WORD, found),)
+                return ("none" if found is None else format_assignment(kind.WORD, found),)
             case "report":
                 return linker.report()
             case "parts":
                 return self.saved()
             case "shadow":
-                return format_part(flattened(linker.kind, linker[about[0]]))
+                return format_part(flattened(kind, linker[about[0]]))
             case _:
                 names = linker.why(about[0])
                 return ("open" if names is None else " ".join(["because", *names]),)

@@ -73,7 +73,7 @@ class Linker:
 
     def put(self, part):
         """Add the part behind the other ones."""
-        if part.word != self.kind.WORD or part.name in self:
+        if self._is_of_another_kind(part) or part.name in self:
             raise InvalidLink(part.name)
         check_theory(self.kind, part.theory)
         now = self.standing
@@ -221,7 +221,7 @@ class Linker:
 
     def fits(self, part):
         """Return True if the linker would work with the part put or edited, otherwise False."""
-        if part.word != self.kind.WORD:
+        if self._is_of_another_kind(part):
             raise InvalidLink(part.name)
         check_theory(self.kind, part.theory)
         others = [own for own in self.standing.parts if own.name != part.name]
@@ -242,6 +242,11 @@ class Linker:
         last = "works" if now.working_together else " ".join(["clash", *self.current_culprits()])
         return *lines, last
 
+    def _is_of_another_kind(self, part):
+        """Return True if the word of the part is not the word of the kind, otherwise False."""
+        kind = self.kind
+        return part.word != kind.WORD
+
     def _index_of(self, name):
         """Return the index of the part with the name."""
         names = [part.name for part in self.standing.parts]
@@ -257,7 +262,7 @@ class Linker:
     def _checked_place(self, name, part):
         """Return the index of the part with the name, if the passed part can stand in its place."""
         at = self._index_of(name)
-        if part.word != self.kind.WORD or part.name in self and part.name != name:
+        if self._is_of_another_kind(part) or part.name in self and part.name != name:
             raise InvalidLink(part.name)
         check_theory(self.kind, part.theory)
         return at

@@ -87,9 +87,10 @@ def bundled(link, name, *, shown):
     for chosen in shown:
         if chosen not in interface:
             raise InvalidPart(chosen)
+    kind = link.kind
     names, constraints = whole(link)
     hidden = [other for other in names if other not in shown]
-    return Part(link.kind.WORD, name, shown, hidden, constraints)
+    return Part(kind.WORD, name, shown, hidden, constraints)
 
 
 def full_name(part, hidden):

@@ -6,12 +6,12 @@ from time import perf_counter
 
 from shadowlinks.elimination import without_names
 from shadowlinks.linker import Linker
-from shadowlinks.links import Link
+from shadowlinks.links import Link, shadows, small_theories, solution, whole, works
 from shadowlinks.machines import connected_machines, least_ground, names_of
 from shadowlinks.meetings import part_views
 from shadowlinks.parts import Part
 from shadowlinks.shadows import follows, satisfies, shadow, solve
-from shadowlinks.theories import join
+from shadowlinks.theories import join, restrict
 from shadowlinks.wordpaths import first_ground, length_machine, theory_about
 from shadowlinks.words import Words
 from tests.wordcases import (
@@ -160,6 +160,28 @@ class HardLinksTest(unittest.TestCase):
             machines = [self.machine(maker, own, holes) for own in owns]
             parts.append(Part("words", f"p{at}", shown, "hk"[:many], machines))
         return Link(KIND, parts)
+
+    def test_solutions_by_the_machines_of_the_parts(self):
+        count = 0
+        for seed in range(200, 600):
+            link = self.link(seed)
+            found = shadows(link)
+            small = small_theories(KIND, link.parts, found)
+            if sum(one != other for one, other in zip(small, found)) > 1:
+                first = solve(KIND, join(found))
+                values = solution(link)
+                self.assertIs(works(link), first is not None)
+                self.assertEqual(values is None, first is None)
+                linker = Linker.of(KIND, link.parts)
+                for one in link:
+                    self.assertIs(linker.fits(one), works(link))
+                for constraint in found[0][1]:
+                    self.assertIsNotNone(linker.why(constraint))
+                if first is not None:
+                    count += 1
+                    self.assertEqual(restrict(values, link.interface), first)
+                    self.assertIs(satisfies(KIND, whole(link), values), True)
+        self.assertGreater(count, 5)
 
     def test_views_and_surroundings(self):
         for seed in (101832, 101937, 204716, 207614, 406939, 603091, 1301924):
