@@ -249,10 +249,11 @@ class Linker:
 
     def _index_of(self, name):
         """Return the index of the part with the name."""
-        names = [part.name for part in self.standing.parts]
-        if name not in names:
-            raise UnknownPart(name)
-        return names.index(name)
+        # An operator runs this, so it calls no method with the name of an attribute, as `index` is one of an error.
+        for at, part in enumerate(self.standing.parts):
+            if part.name == name:
+                return at
+        raise UnknownPart(name)
 
     def _found_without(self, name):
         """Return the shadows of the parts with other names."""

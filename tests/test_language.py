@@ -30,6 +30,13 @@ METHODS = set(
     " setdefault split splitlines startswith strip update upper values zfill bit_length removeprefix"
     " removesuffix".split()
 )
+# The in-place operators are not among these: they may change what they stand for.
+OPERATORS = {
+    f"__{word}__" for word in (
+        "eq repr str len iter lt le gt ge ne add sub mul floordiv mod pow and or xor lshift rshift radd rsub rmul"
+        " rfloordiv rmod rand ror rxor rlshift rrshift neg pos invert abs bool contains getitem".split()
+    )
+}
 COMPREHENSIONS = (ast.ListComp, ast.SetComp, ast.DictComp, ast.GeneratorExp)
 GIVERS = {"zip", "enumerate", "reversed", "range"}
 TAKERS = {"list", "tuple", "dict", "sorted", "sum", "any", "all", "enumerate", "zip", "min", "max"}
@@ -81,6 +88,65 @@ def own_variables(node):
         if not isinstance(child, COMPREHENSIONS):
             found |= own_variables(child)
     return found
+
+
+def defined_in(trees):
+    """The functions and methods of each name; a class stands for every `__init__`, as it may take that of a base."""
+    found = {"__init__": []}
+    for tree in trees:
+        for node in ast.walk(tree):
+            if isinstance(node, ast.FunctionDef):
+                found.setdefault(node.name, []).append(node)
+            elif isinstance(node, ast.ClassDef):
+                found[node.name] = found["__init__"]
+    return found
+
+
+def attributes_in(trees):
+    """The names of all attributes that are assigned somewhere."""
+    every = [node for tree in trees for node in ast.walk(tree)]
+    return {node.attr for node in every if isinstance(node, ast.Attribute) and isinstance(node.ctx, ast.Store)}
+
+
+def is_property(function):
+    return any(isinstance(mark, ast.Name) and mark.id == "property" for mark in function.decorator_list)
+
+
+def called_name(call):
+    return call.func.id if isinstance(call.func, ast.Name) else getattr(call.func, "attr", None)
+
+
+def calls_in(function):
+    return [node for node in ast.walk(function) if isinstance(node, ast.Call)]
+
+
+def run_by_operators(trees):
+    """The operators and properties, and all that they may call: whatever has the name that is called."""
+    found = defined_in(trees)
+    reached = []
+    left = [node for tree in trees for node in functions_in(tree) if node.name in OPERATORS or is_property(node)]
+    while left:
+        node = left.pop()
+        if node not in reached:
+            reached.append(node)
+            left.extend(one for call in calls_in(node) for one in found.get(called_name(call), []))
+    return reached
+
+
+def barred_calls(trees):
+    """The calls in what operators and properties run of something that was passed or that an object may hold."""
+    attributes = attributes_in(trees)
+    barred = []
+    for function in run_by_operators(trees):
+        variables = {name for node, name in bound_names(function) if not isinstance(node, ast.FunctionDef)}
+        for call in calls_in(function):
+            if isinstance(call.func, ast.Attribute):
+                wrong = call.func.attr in attributes
+            else:
+                wrong = called_name(call) in variables or not isinstance(call.func, ast.Name)
+            if wrong:
+                barred.append((function.name, ast.unparse(call.func)))
+    return sorted(barred)
 
 
 class LanguageTest(unittest.TestCase):
@@ -215,6 +281,40 @@ class LanguageTest(unittest.TestCase):
         for file, _, tree in sources():
             for node in ast.walk(tree):
                 self.assertNotIsInstance(node, ast.AugAssign, f"{file} {getattr(node, 'lineno', 0)}")
+
+    def test_operators_and_properties_call_nothing_that_is_passed_or_held(self):
+        trees = [tree for _, _, tree in sources()]
+        # An attribute of this name makes each `.index(..)` a call of what an object may hold.
+        self.assertIn("index", attributes_in(trees))
+        reached = {node.name for node in run_by_operators(trees)}
+        self.assertLessEqual({"__getitem__", "_index_of", "theory", "merge_names", "_least_sums"}, reached)
+        self.assertEqual(barred_calls(trees), [])
+
+    def test_calls_that_operators_and_properties_may_not_run_are_found(self):
+        held = "class Wrong:\n    def __init__(self, index):\n        self.index = index\n"
+        for body, barred in (
+            (
+                "class Box:\n    def __getitem__(self, at):\n        return self.rows.index(at)",
+                [("__getitem__", "self.rows.index")],
+            ),
+            ("class Box:\n    def __getitem__(self, at):\n        return self.rows.find(at)", []),
+            ("class Box:\n    def __iadd__(self, other):\n        return self.rows.index(other)", []),
+            ("class Box:\n    def at(self, name):\n        return self.rows.index(name)", []),
+            ("class Box:\n    def __contains__(self, x):\n        return x(1)", [("__contains__", "x")]),
+            ("class Box:\n    def __len__(self):\n        return self.rows[0]()", [("__len__", "self.rows[0]")]),
+            ("class Box:\n    def __abs__(self):\n        return [k(1) for k in self.rows]", [("__abs__", "k")]),
+            (
+                "class Box:\n    @property\n    def many(self):\n        return self.place(1)\n"
+                "    def place(self, at):\n        return place_in(self.rows, at)\n"
+                "def place_in(rows, at):\n    return rows.index(at)", [("place_in", "rows.index")],
+            ),
+            (
+                "class Box:\n    def __neg__(self):\n        return Shelf([1])\n"
+                "class Shelf:\n    def __init__(self, rows):\n        self.at = rows.index(1)",
+                [("__init__", "rows.index")],
+            ),
+        ):
+            self.assertEqual(barred_calls([ast.parse(f"{held}{body}")]), barred, body)
 
     def test_variables_of_inner_comprehensions(self):
         for file, _, tree in sources():

@@ -87,6 +87,25 @@ class BasicsTest(unittest.TestCase):
                 work()
             self.assertEqual(caught.exception.name, "x")
 
+    def test_reading_a_part_by_its_name(self):
+        for kind in KINDS:
+            for link in made_links(kind, 115, 6):
+                linker = Linker.of(kind, link.parts)
+                for one in link:
+                    self.assertIs(linker[one.name], one)
+                    self.assertEqual(linker.shadow_of(one.name), shadow_of(kind, one))
+                for name in ("", "nobody", "left.x"):
+                    with self.assertRaises(UnknownPart) as caught:
+                        linker[name]
+                    self.assertEqual(caught.exception.name, name)
+        linker = Linker.of(BITS, chain(BITS).parts)
+        linker.take("left")
+        self.assertEqual([linker[name].name for name in ("wire", "right")], ["wire", "right"])
+        for lacking, name in ((linker, "left"), (Linker(BITS), "wire")):
+            with self.assertRaises(UnknownPart) as caught:
+                lacking[name]
+            self.assertEqual(caught.exception.name, name)
+
     def test_properties_and_generator(self):
         for name in ("working", "journal"):
             self.assertIsInstance(vars(Linker)[name], property)
